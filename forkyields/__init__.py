@@ -1,0 +1,1 @@
+"""Forkyields: what one fork can bring its parent, and who takes it."""
