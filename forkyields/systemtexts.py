@@ -32,9 +32,14 @@ def instruction_line(instruction):
     if word == "go":
         return f"go {joined_word(instruction[1])}"
     if word == "fork":
-        kind, tag, slot, target = instruction[1:]
-        return f"fork {kind} {tag} {slot or '-'} {target}"
+        return fork_line(instruction)
     return " ".join([str(part) for part in instruction])
+
+
+def fork_line(instruction):
+    """The words of a fork."""
+    word, kind, tag, slot, target = instruction
+    return " ".join([word, kind, tag, slot if slot else "-", str(target)])
 
 
 def wait_line(instruction):

@@ -22,7 +22,10 @@ BUSY = (
         ('exit', 0), ('kill', 'a', 6), ('wait', (('a', 4, 4, 7),), 5, 7, ('z',)), ('exit', 1))),
     ('low', (), (('go', (1, 2)), ('exit', 0), ('exit', 1))),
 )
-SYSTEMS = (SYSTEM, BUSY, (LIB,), (WORK, LIB))
+# Children end with each code, or are killed, and are taken from the slot.
+KEEPER = (('keep', ('s',), (('fork', 'low', 'x', 's', 1), ('go', (2, 3)), ('kill', 's', 3),
+                            ('wait', (('s', 0, 1, 0),), 0, 0, ('x',)))), BUSY[2])
+SYSTEMS = (SYSTEM, BUSY, KEEPER, (LIB,), (WORK, LIB))
 
 
 class Odd:

@@ -20,7 +20,7 @@ class SystemCheckerTest(unittest.TestCase):
         self.assertIs(is_system(thing), not found)
 
     def test_places(self):
-        self.assertEqual([lets_system(system) for system in SYSTEMS], [10, 21, 1, 3])
+        self.assertEqual([lets_system(system) for system in SYSTEMS], [10, 21, 7, 1, 3])
         self.assertIs(type(lets_system(thing=SYSTEM)), int)
 
     def test_shape(self):
