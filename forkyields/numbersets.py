@@ -61,7 +61,7 @@ def joined_sets(told, *others):
     for part in parts:
         whole = lcm(whole, part[2]) if is_endless(part) else whole
     early = [n for part in parts for n in part[0]]
-    return gathered(early, [n for part in parts if is_endless(part) for n in spread(part, whole)], whole)
+    return gathered(early, [start for part in parts for start in spread(part, whole)], whole)
 
 
 def most_in(told):

@@ -79,7 +79,7 @@ def is_endless(told):
 
 
 def spread(told, period):
-    """The starts of a number set for a multiple of its period."""
+    """The starts of a number set for a multiple of its period; a finite set has none."""
     return [n for r in told[1] for n in range(r, r + period, told[2])]
 
 

@@ -114,7 +114,7 @@ def random_systems(seed, many):
 
 def spoiled(thing):
     """All values that differ from a tuple in one place, at any depth."""
-    leaves = [None, True, False, -1, 0, 1, 2, 99, '', 'a', 'h', 'zz', 'A', 'lib', 'abcdefghi', (), ('a',), (0,), [], [1]]
+    leaves = [None, True, False, -1, 0, 1, 2, 99, '', 'a', 'h', 'zz', 'A', 'lib', 'abcdefghi', (), ('a',), (0,), [], [1], Odd()]
     for leaf in leaves:
         if leaf is not thing:
             yield leaf

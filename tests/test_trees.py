@@ -15,7 +15,7 @@ EXIT = ('exit', 0)
 def runs(seed, many, most):
     """Random runs of random systems."""
     rng = random.Random(seed)
-    systems = list(SYSTEMS) + random_systems(seed, many)
+    systems = list(SYSTEMS) + [BUSY] * 8 + random_systems(seed, many)
     return [(system, random_run(rng, system, rng.randint(0, most))) for system in systems for _ in range(3)]
 
 
@@ -52,6 +52,18 @@ class StepsTest(unittest.TestCase):
         self.assertEqual(trees.tree_after(system, run), (
             (0, 'a', '', -1, -1, 0, (-1, 2), (1, 3)), (1, 'leaf', 'x', 0, 0, 0, (), ()),
             (2, 'leaf', 'y', 0, -1, 0, (), ()), (3, 'leaf', 'z', 0, -1, 0, (), ())))
+
+    def test_two_filled_slots(self):
+        places = (('fork', 'leaf', 'x', 's', 1), ('fork', 'leaf', 'y', 't', 2), ('go', (3, 4, 5)),
+                  ('fork', 'leaf', 'z', 's', 6), ('release', 't', 6), ('wait', (('s', 6, 7, 7), ('t', 6, 7, 7)), -1, 7, ()),
+                  EXIT, EXIT)
+        system = (('a', ('s', 't'), places), LEAF)
+        run = steps((0, 'fork'), (0, 'fork'), (1, 'exit'), (2, 'exit'))
+        for middle, slots, pool in ((steps((0, 'go', 3), (0, 'fork')), (3, 2), (1,)),
+                                    (steps((0, 'go', 4), (0, 'release')), (1, -1), (2,)),
+                                    (steps((0, 'go', 5), (0, 'take', 1)), (-1, 2), ()),
+                                    (steps((0, 'go', 5), (0, 'take', 2)), (1, -1), ())):
+            self.assertEqual(self.row(system, run + middle, 0), (0, 'a', '', -1, -1, 6, slots, pool))
 
     def taker(self, word, pool, later=()):
         places = (('fork', 'mid', 'x', 's', 1), ('fork', 'one', 'p', '', 2), ('go', (3, 4)),
