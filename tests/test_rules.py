@@ -12,6 +12,8 @@ PACKAGE = pathlib.Path(__file__).resolve().parent.parent / 'forkyields'
 FILES = sorted(PACKAGE.glob('*.py'))
 TREES = {path: ast.parse(path.read_text(), str(path)) for path in FILES}
 LIBRARY = {'math': {'gcd', 'lcm', 'isqrt', 'comb', 'perm', 'factorial'}}
+# Shown examples leave their last value among the builtins, as _.
+BUILTIN_NAMES = set(dir(builtins)) - {'_'}
 BUILTINS = set(
     'len range enumerate zip min max sum abs sorted reversed int str bool list tuple dict set isinstance ord repr any '
     'all divmod Exception ValueError TypeError KeyError IndexError LookupError ZeroDivisionError ArithmeticError '
@@ -85,7 +87,7 @@ class RulesTest(unittest.TestCase):
                 self.holds(path.is_file() and re.fullmatch(r'[a-z0-9_]+\.py', path.name), path, 0, 'L1 L14')
         self.assertLessEqual(len(FILES), 100)
         for path in FILES:
-            self.assertNotIn(path.stem, dir(builtins))
+            self.assertNotIn(path.stem, BUILTIN_NAMES)
             self.assertNotRegex(path.stem, r'^(test|law)')
             lines = path.read_text().split('\n')
             self.holds(len(lines) <= 400, path, len(lines), 'L10')
@@ -158,7 +160,7 @@ class RulesTest(unittest.TestCase):
             fixed = {alias.name for _, node in nodes(ast.ImportFrom) if _ == path for alias in node.names}
             fixed |= {node.name for node in TREES[path].body if isinstance(node, ast.ClassDef)}
             for name in bound - DUNDERS:
-                told = (re.fullmatch('_|_?[A-Za-z][A-Za-z0-9_]*', name) and name not in dir(builtins)
+                told = (re.fullmatch('_|_?[A-Za-z][A-Za-z0-9_]*', name) and name not in BUILTIN_NAMES
                         and name not in BARRED and not keyword.issoftkeyword(name)
                         and not re.match('_wall|_pe_|_dcw_|_enum_|_cm_|_twin_re_|_lay_|_law_|_stub_|_sre', name))
                 self.holds(told or name in ('_',), path, name, 'L8 L12 L15 L17')
@@ -228,7 +230,7 @@ class RulesTest(unittest.TestCase):
                 self.holds(isinstance(node.func, ast.Attribute), path, node, 'L7')
                 self.holds(node.func.attr in METHODS | own_methods(), path, node, 'L25')
         for path, node in nodes(ast.Name):
-            if node.id in dir(builtins):
+            if node.id in BUILTIN_NAMES:
                 self.holds(node.id in BUILTINS, path, node, 'L8')
 
     def test_functions_are_called_only(self):
@@ -323,7 +325,7 @@ class RulesTest(unittest.TestCase):
         """Each name that is read is bound: a table of symbols tells what an untested branch would only fail at."""
         for path in FILES:
             table = symtable.symtable(path.read_text(), str(path), 'exec')
-            known = set(table.get_identifiers()) | set(dir(builtins))
+            known = set(table.get_identifiers()) | BUILTIN_NAMES
             pending = list(table.get_children())
             while pending:
                 part = pending.pop()
