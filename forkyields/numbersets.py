@@ -1,12 +1,10 @@
 """Number sets: tuples (early, repeats, period), one for each set of numbers that is finite or repeats."""
 
-from math import lcm
-
 from forkyields.checks import need
 from forkyields.errors import NotUsable
 from forkyields.kinds import is_integer, is_number, is_set_of_numbers
-from forkyields.progressions import gathered, goes_on_in, has_index, holds, is_endless, is_least_form
-from forkyields.progressions import member_at, spread, starts_by_remainder
+from forkyields.progressions import gathered, greatest_in, has_index, holds, is_least_form
+from forkyields.progressions import lies_within, member_at, shifted, union_of
 
 
 def is_number_set(thing):
@@ -41,13 +39,7 @@ def all_within(told, other):
     """Whether each member of told is one of other."""
     need(is_number_set(told), "told")
     need(is_number_set(other), "other")
-    if not all([holds(other, n) for n in told[0]]):
-        return False
-    if not is_endless(told) or not is_endless(other):
-        return not is_endless(told)
-    whole = lcm(told[2], other[2])
-    starts = starts_by_remainder(other)
-    return all([goes_on_in(start, whole, other, starts) for start in spread(told, whole)])
+    return lies_within(told, other)
 
 
 def joined_sets(told, *others):
@@ -56,29 +48,20 @@ def joined_sets(told, *others):
     for k, other in enumerate(others):
         if not is_number_set(other):
             raise NotUsable("others", k)
-    parts = [told, *others]
-    whole = 1
-    for part in parts:
-        whole = lcm(whole, part[2]) if is_endless(part) else whole
-    early = [n for part in parts for n in part[0]]
-    return gathered(early, [start for part in parts for start in spread(part, whole)], whole)
+    return union_of([told, *others])
 
 
 def most_in(told):
     """The greatest member, -1 if there is none, None if there is no greatest one."""
     need(is_number_set(told), "told")
-    if is_endless(told):
-        return None
-    return told[0][-1] if told[0] else -1
+    return greatest_in(told)
 
 
 def moved_set(told, by):
     """The number set of each member plus by, those below 0 left out."""
     need(is_number_set(told), "told")
     need(is_integer(by), "by")
-    early, repeats, period = told
-    starts = [r + by if r + by >= 0 else (r + by) % period for r in repeats]
-    return gathered([n + by for n in early if n + by >= 0], starts, period)
+    return shifted(told, by)
 
 
 def first_numbers(told, many):

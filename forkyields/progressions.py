@@ -1,5 +1,7 @@
 """The one form of a number set, made from single members and from progressions that go on and on."""
 
+from math import lcm
+
 
 def gathered(early, starts, period):
     """The number set of the members early and, for each start, of start, start + period and so on."""
@@ -99,6 +101,40 @@ def goes_on_in(start, step, told, starts):
         # The step is a multiple of the period, so the remainder stays.
         start = start + step
     return True
+
+
+def lies_within(told, other):
+    """Whether each member of told is one of other."""
+    if not all([holds(other, n) for n in told[0]]):
+        return False
+    if not is_endless(told) or not is_endless(other):
+        return not is_endless(told)
+    whole = lcm(told[2], other[2])
+    starts = starts_by_remainder(other)
+    return all([goes_on_in(start, whole, other, starts) for start in spread(told, whole)])
+
+
+def union_of(parts):
+    """The number set of all members of any of these number sets."""
+    whole = 1
+    for part in parts:
+        whole = lcm(whole, part[2]) if is_endless(part) else whole
+    early = [n for part in parts for n in part[0]]
+    return gathered(early, [start for part in parts for start in spread(part, whole)], whole)
+
+
+def greatest_in(told):
+    """The greatest member, -1 if there is none, None if there is no greatest one."""
+    if is_endless(told):
+        return None
+    return told[0][-1] if told[0] else -1
+
+
+def shifted(told, by):
+    """The number set of each member plus by, those below 0 left out."""
+    early, repeats, period = told
+    starts = [r + by if r + by >= 0 else (r + by) % period for r in repeats]
+    return gathered([n + by for n in early if n + by >= 0], starts, period)
 
 
 def many_to(told, number):

@@ -3,12 +3,12 @@
 from forkyields.checks import need
 from forkyields.kinds import is_number
 from forkyields.playing import checked_world, forkers_in, was_forked
-from forkyields.worlds import CODE, PARENT, all_steps, children_in, is_there, lives, program_of
+from forkyields.worlds import CODE, PARENT, all_steps, children_in, is_there, lives, program_of, tree_of
 
 
 def tree_after(system, run):
     """The tree behind a run: a row for each process that is there."""
-    return tuple([row for row in checked_world(system, run) if row])
+    return tree_of(checked_world(system, run))
 
 
 def next_steps(system, run):

@@ -30,6 +30,11 @@ def first_world(system):
     return (fresh_row(0, system[0], "", -1),)
 
 
+def tree_of(world):
+    """The tuple of the rows of the processes that are there."""
+    return tuple([row for row in world if row])
+
+
 def is_there(world, process):
     """Whether this number is that of a process that is living, or ended and not taken."""
     return process < len(world) and world[process] != ()

@@ -133,3 +133,39 @@ def spoiled(thing):
 def same(first, second):
     """Whether two values are equal and of the same kinds at any depth."""
     return repr(first) == repr(second)
+
+
+def lively_kind(rng, name, later, slots, many):
+    """A kind that mostly goes on from place to place and forks a lot; its last place is an exit."""
+    def place(p):
+        return p + 1 if rng.random() < 0.75 else rng.randrange(many)
+
+    places = []
+    for p in range(many - 1):
+        words = ['go', 'wait', 'poll'] * (1 + p) + ['fork'] * (9 if p < 3 else 4 + 2 * p) * bool(later)
+        words += ['kill', 'release'] * p * bool(slots) + ['exit'] * (p // 3)
+        word = rng.choice(words)
+        tags = tuple(sorted(rng.sample('tuv', rng.randrange(3))))
+        rows = tuple((slot, place(p), place(p), place(p)) for slot in slots if rng.random() < 0.6)
+        pool = place(p) if not rows or rng.random() < 0.6 else -1
+        places.append({
+            'go': ('go', tuple(sorted({place(p), rng.randrange(many)}))),
+            'fork': ('fork', rng.choice(later or ['']), rng.choice('tuv'), rng.choice([*slots, '']), place(p)),
+            'wait': ('wait', rows, pool, place(p), tags), 'poll': ('poll', rows, pool, place(p), place(p), tags),
+            'kill': ('kill', rng.choice(slots or ['']), place(p)),
+            'release': ('release', rng.choice(slots or ['']), place(p)), 'exit': ('exit', rng.randrange(2))}[word])
+    return (name, slots, (*places, ('exit', rng.randrange(2))))
+
+
+def lively_system(rng, kinds=4, places=7, slots=2):
+    names = [f'k{letter}' for letter in 'abcdefgh'[:rng.randint(min(kinds, 2), kinds)]]
+    made = []
+    for i, name in enumerate(names):
+        own = tuple(sorted(rng.sample('ab', rng.randint(0, slots))))
+        made.append(lively_kind(rng, name, names[i + 1:], own, rng.randint(2, places)))
+    return tuple(made)
+
+
+def lively_systems(seed, many, **sizes):
+    rng = random.Random(seed)
+    return [lively_system(rng, **sizes) for _ in range(many)]

@@ -32,6 +32,22 @@ FUNCTIONS = {
     'earlyruns': ['early_numbers(system, run)', 'early_run(system, run)', 'is_early(system, run)'],
     'allruns': ['runs_of(system, length)'],
     'runreadings': ['read_step(text)', 'read_run(system, text)'],
+    'runtexts': ['step_text(step)', 'run_text(system, run)'],
+    'pictures': ['picture(system, run)'],
+    'states': ['first_state(system, kind)', 'state_of(system, run, process)', 'pool_of(system, run, process)'],
+    'tables': ['table_of(system, kind)', 'tables_of(system)'],
+    'tablechecker': ['lets_tables(system, thing)'],
+    'accounts': ['account_of(system, kind)', 'reach_of(system, kind, code)'],
+    'lives': ["run_to(system, kind, state, number, *, living=False, tag='')",
+              'life_of(system, kind, code, number, *, living=False)'],
+    'counts': ['counted_run(system, kind, state, number, *, living=False)', 'lets_count(system, kind, thing)'],
+    'probes': ["settled_probe(kind, code, number, *, called='probe')",
+               "reach_probe(kind, code, number, *, called='probe')"],
+    'exchanges': ['can_replace(system, old, new)', 'are_alike(system, old, new)', 'parting(system, old, new)'],
+    'tagtables': ['tag_table(system, kind, tag)', 'tag_account(system, kind, tag)'],
+    'tagchecker': ['lets_tag_tables(system, tag, thing)'],
+    'takers': ['comes(system, kind)', 'can_take(system, kind, place, tag)', 'foreign_takes(system)', 'is_calm(system)',
+               'take_paper(system, kind, place, tag)'],
 }
 CLASSES = {
     'numberclasses': {'Numbers': ['told=((), (), 0)', 'told', 'of', 'every', 'none', '__contains__', '__bool__',
@@ -42,6 +58,11 @@ CLASSES = {
                                  'of', 'read'],
                       'Excluded': ['kinds, *exclusions', 'whole'],
                       'Turned': ['kinds', 'whole']},
+    'runclasses': {'Run': ['system, steps=()', 'run_now', 'tree_now', '__add__', '__getitem__', '__contains__', '__len__',
+                           '__iter__', '__str__', '__eq__', '__le__', '__ge__', 'read', '__bool__'],
+                   'Driver': ['system', 'run_now', 'tree_now', 'next_now', 'go', '__iadd__', 'back', 'trial', 'tried']},
+    'accountclasses': {'Account': ['parts', 'of', 'parts_now', '__getitem__', 'reach', '__le__', '__ge__', '__eq__',
+                                   '__or__', '__bool__', '__str__', '__iter__']},
 }
 
 

@@ -2,6 +2,7 @@
 
 import ast
 import builtins
+import functools
 import keyword
 import pathlib
 import re
@@ -52,10 +53,12 @@ def is_call_of(node, *names):
     return isinstance(node, ast.Call) and isinstance(node.func, ast.Name) and node.func.id in names
 
 
+@functools.cache
 def classes():
     return {node.name: node for _, node in nodes(ast.ClassDef)}
 
 
+@functools.cache
 def own_methods():
     return {node.name for made in classes().values() for node in made.body if isinstance(node, ast.FunctionDef)}
 
@@ -75,6 +78,44 @@ def bound_names(path):
         elif isinstance(node, ast.alias):
             found.add(node.name)
     return found
+
+
+def marks_of(node):
+    return [ast.unparse(mark) for mark in node.decorator_list]
+
+
+def changes(method):
+    """Whether a method of a class may change something: all but operators, properties and the like."""
+    if not method.name.startswith('__'):
+        return marks_of(method) != ['property']
+    return method.name in ('__init__', '__call__', '__enter__', '__exit__', '__setitem__') or method.name[2] == 'i'
+
+
+def run_by_operators():
+    """All functions and methods that an operator or a property runs, itself among them, found by their names."""
+    made = {}
+    for path, tree in TREES.items():
+        for node in tree.body:
+            if isinstance(node, ast.FunctionDef):
+                made.setdefault(node.name, []).append((path, node))
+            for part in node.body if isinstance(node, ast.ClassDef) else ():
+                if isinstance(part, ast.FunctionDef):
+                    made.setdefault(part.name, []).append((path, part))
+                    if part.name == '__init__':
+                        made.setdefault(node.name, []).append((path, part))
+    pending = [(path, part) for path, node in nodes(ast.ClassDef) for part in node.body
+               if isinstance(part, ast.FunctionDef) and not changes(part)]
+    found = {}
+    while pending:
+        path, node = pending.pop()
+        if id(node) in found:
+            continue
+        found[id(node)] = (path, node)
+        for part in ast.walk(node):
+            if isinstance(part, ast.Call):
+                name = part.func.id if isinstance(part.func, ast.Name) else part.func.attr
+                pending.extend(made.get(name, ()))
+    return list(found.values())
 
 
 class RulesTest(unittest.TestCase):
@@ -202,8 +243,9 @@ class RulesTest(unittest.TestCase):
         for path, node in nodes(ast.Try):
             self.holds(not node.finalbody, path, node, 'not used here')
         for path, node in nodes(ast.FunctionDef):
-            names = [mark.id for mark in node.decorator_list]
-            self.holds(len(names) < 2 and set(names) <= {'property', 'classmethod', 'staticmethod'}, path, node, 'L4')
+            names = marks_of(node)
+            marks = {'property', 'classmethod', 'staticmethod', f'{node.name}.setter'}
+            self.holds(len(names) < 2 and set(names) <= marks, path, node, 'L4')
             self.holds(node.returns is None, path, node, 'L21')
         for path, node in nodes(ast.Yield, ast.YieldFrom):
             self.holds(path.stem in ('allruns',), path, node, 'L23')
@@ -245,8 +287,9 @@ class RulesTest(unittest.TestCase):
         for path, node in nodes(ast.Call):
             if is_call_of(node, 'sorted'):
                 self.holds(not node.keywords and is_call_of(node.args[0], 'set'), path, node, 'L5 Operators')
-            if is_call_of(node, 'min', 'max', 'reversed', 'map', 'iter') and path.stem != 'systemclasses':
-                self.holds(False, path, node, 'not used here')
+            if is_call_of(node, 'min', 'max', 'reversed', 'map', 'iter'):
+                plain = is_call_of(node, 'iter') and path.stem in ('systemclasses', 'runclasses')
+                self.holds(plain, path, node, 'not used here')
             if is_call_of(node, 'any', 'all', 'sum'):
                 self.holds(isinstance(node.args[0], (ast.ListComp, ast.Subscript)), path, node, 'L7')
         placed = {id(node.args[0]) for _, node in nodes(ast.Call) if is_call_of(node, 'sorted', 'len') and node.args}
@@ -279,9 +322,8 @@ class RulesTest(unittest.TestCase):
         for path, node in nodes(ast.Raise):
             self.holds(isinstance(node.exc, ast.Call) and node.exc.func.id in own | {'TypeError'}, path, node, 'L19')
 
-    def test_changing_methods_change_own_lists(self):
-        """Operators and properties change nothing, so all functions change lists alone that they made themselves."""
-        for path, node in nodes(ast.FunctionDef):
+    def test_what_operators_run_changes_own_lists_alone(self):
+        for path, node in run_by_operators():
             made = set()
             for part in ast.walk(node):
                 if isinstance(part, ast.Assign) and isinstance(part.targets[0], ast.Name):
@@ -298,10 +340,13 @@ class RulesTest(unittest.TestCase):
                 while isinstance(base, ast.Subscript):
                     base = base.value
                 self.holds(base is None or isinstance(base, ast.Name) and base.id in made, path, part, 'L5 Operators')
+                if isinstance(part, ast.Attribute) and isinstance(part.ctx, ast.Store):
+                    self.holds(node.name == '__init__' and part.value.id == 'self', path, part, 'L5 Operators')
 
     def test_classes(self):
         for name, node in classes().items():
-            methods = [part.name for part in node.body if isinstance(part, ast.FunctionDef)]
+            made = [part for part in node.body if isinstance(part, ast.FunctionDef)]
+            methods = [part.name for part in made if marks_of(part) != [f'{part.name}.setter']]
             self.assertEqual(len(methods), len(set(methods)), name)
             self.assertTrue({part for part in methods if part.startswith('__')} <= DUNDERS, name)
             if '__getitem__' in methods:
@@ -317,7 +362,7 @@ class RulesTest(unittest.TestCase):
                       if isinstance(part, ast.FunctionDef) and part.decorator_list}
         for path, node in nodes(ast.Attribute):
             if isinstance(node.ctx, ast.Load):
-                self.holds(node.attr in stored | properties | METHODS | own_methods(), path, node, 'L18')
+                self.holds(node.attr in stored | properties | METHODS | own_methods() | {'setter'}, path, node, 'L18')
         self.assertFalse(stored & own_methods())
         self.assertFalse(stored & METHODS)
 

@@ -1,0 +1,194 @@
+"""Nodes with a number that goes up and down by one: which nodes are reached with which numbers, and on which way."""
+
+from forkyields.progressions import gathered, holds
+
+
+class Ladder:
+    """Nodes, counted from 0, and the steps between them; node 0 with the number 0 is the beginning.
+
+    Each of the lists of steps has, for each node, the nodes to which a step leads: level keeps the number, ground
+    keeps it if it is 0, above if it is not, up adds 1 to it, and down takes 1 from a number that is not 0.
+    """
+
+    def __init__(self):
+        self.nodes = []
+        self.known = {}
+        self.level = []
+        self.ground = []
+        self.above = []
+        self.up = []
+        self.down = []
+
+    def node_for(self, name):
+        """The node of this name, a new one if there is none."""
+        if name not in self.known:
+            self.known[name] = len(self.nodes)
+            self.nodes.append(name)
+            for steps in (self.level, self.ground, self.above, self.up, self.down):
+                steps.append([])
+        return self.known[name]
+
+    def rise(self, node, told, target):
+        """Lead from a node to another one, the number growing by any member of told."""
+        early, repeats, period = told
+        for many in early:
+            self.level[node].append(self.climb(many, target))
+        if repeats:
+            turn = self.turn(told, target)
+            self.level[node].append(turn)
+
+    def climb(self, many, target):
+        """The node from which the number grows by so many, with no other way than to the target."""
+        below = target
+        for rest in range(1, many + 1):
+            node = self.node_for(("more", rest, target))
+            if not self.up[node]:
+                self.up[node].append(below)
+            below = node
+        return below
+
+    def turn(self, told, target):
+        """The node from which the number grows by any member of told that repeats, with no way but to the target."""
+        _, repeats, period = told
+        name = ("turn", repeats, period, target)
+        if name in self.known:
+            return self.known[name]
+        turn = self.node_for(name)
+        for many in repeats:
+            self.level[turn].append(self.climb(many, target))
+        rest = self.climb(period - 1, turn)
+        self.up[turn].append(rest)
+        return turn
+
+    def fall(self, node, target, marked):
+        """Lead from a node to another one, the number falling by 1, to one that is not 0 if marked."""
+        if not marked:
+            self.down[node].append(target)
+            return
+        still = self.node_for(("still", target))
+        if not self.above[still]:
+            self.above[still].append(target)
+        self.down[node].append(still)
+
+    def steps_from(self, node, number):
+        """The steps from a node with a number, as pairs of a node and a number."""
+        same = self.level[node] + (self.above[node] if number else self.ground[node])
+        lower = [(after, number - 1) for after in self.down[node]] if number else []
+        return [(after, number) for after in same] + lower + [(after, number + 1) for after in self.up[node]]
+
+
+def spread_over(steps, first):
+    """All nodes to which these steps lead from the first ones, themselves among them, ascending."""
+    found = {node: True for node in first}
+    pending = list(found)
+    while pending:
+        node = pending.pop()
+        for after in steps[node]:
+            if after not in found:
+                found[after] = True
+                pending.append(after)
+    return tuple(sorted(set(found)))
+
+
+def leading_to(ladder, goals):
+    """For each node, whether some steps lead from it to one of the goals, whatever the numbers."""
+    back = [[] for node in ladder.nodes]
+    for steps in (ladder.level, ladder.ground, ladder.above, ladder.up, ladder.down):
+        for node, afters in enumerate(steps):
+            for after in afters:
+                back[after].append(node)
+    found = {node: True for node in spread_over(back, goals)}
+    return [node in found for node in range(len(ladder.nodes))]
+
+
+def falls_of(ladder):
+    """For each node to which a step up leads: the nodes to which one comes down from there, one below, at first."""
+    useful = leading_to(ladder, [node for node, afters in enumerate(ladder.down) if afters])
+    bases = {base: True for node, ups in enumerate(ladder.up) if useful[node] for base in ups}
+    falls = {base: {} for base in bases}
+    callers = {base: {} for base in bases}
+    held = {base: {base: True} for base in bases}
+    pending = [(base, base) for base in bases]
+    while pending:
+        base, node = pending.pop()
+        found = [(base, after) for after in ladder.level[node] + ladder.above[node]]
+        for after in ladder.down[node]:
+            if after not in falls[base]:
+                falls[base][after] = True
+                found.extend([(caller, after) for caller in callers[base]])
+        for higher in ladder.up[node]:
+            if higher in falls:
+                callers[higher][base] = True
+                found.extend([(base, after) for after in falls[higher]])
+        for caller, after in found:
+            if useful[after] and after not in held[caller]:
+                held[caller][after] = True
+                pending.append((caller, after))
+    return falls
+
+
+def level_steps(ladder, falls, more):
+    """For each node, the nodes to which one comes with the same number, more of them by the further steps."""
+    steps = []
+    for node, ups in enumerate(ladder.up):
+        back = [after for base in ups if base in falls for after in falls[base]]
+        steps.append(ladder.level[node] + more[node] + back)
+    return steps
+
+
+def levels_of(ladder):
+    """For each number the ascending tuple of the nodes that have it, until all repeats; and where that begins."""
+    falls = falls_of(ladder)
+    nodes = spread_over(level_steps(ladder, falls, ladder.ground), [0])
+    steps = level_steps(ladder, falls, ladder.above)
+    met = {}
+    levels = []
+    while nodes not in met:
+        met[nodes] = len(levels)
+        levels.append(nodes)
+        # What is possible above 0 is the same at each number, so the nodes with one number tell those with the next.
+        nodes = spread_over(steps, [after for node in nodes for after in ladder.up[node]])
+    return (levels, met[nodes])
+
+
+def numbers_by_node(ladder):
+    """For each node, the number set of the numbers with which it is reached."""
+    levels, begin = levels_of(ladder)
+    period = len(levels) - begin
+    early = [[] for node in ladder.nodes]
+    starts = [[] for node in ladder.nodes]
+    for number, nodes in enumerate(levels):
+        for node in nodes:
+            if number < begin:
+                early[node].append(number)
+            else:
+                starts[node].append(number)
+    return [gathered(early[node], starts[node], period) for node in range(len(ladder.nodes))]
+
+
+def way_to(ladder, goals):
+    """A shortest way from the beginning to a goal, as pairs (node, number); goals has a number set for each of some
+    nodes, and there is a way to one of these numbers."""
+    useful = leading_to(ladder, list(goals))
+    came = {(0, 0): None}
+    reached = [(0, 0)]
+    done = 0
+    while done < len(reached):
+        node, number = reached[done]
+        if node in goals and holds(goals[node], number):
+            return way_back(came, reached[done])
+        for after in ladder.steps_from(node, number):
+            if useful[after[0]] and after not in came:
+                came[after] = reached[done]
+                reached.append(after)
+        done = done + 1
+    return []
+
+
+def way_back(came, last):
+    """The way that leads to the last pair, each pair of it having come from the one before."""
+    way = []
+    while last is not None:
+        way.append(last)
+        last = came[last]
+    return way[::-1]
