@@ -8,6 +8,7 @@ from forkyields.numbersets import has_number, is_number_set, joined_sets, moved_
 from forkyields.systemchanges import with_kind
 from forkyields.systemparts import cut_at
 from tests.brute import Found
+from tests.model import Model, random_run
 from tests.ruleplay import played_tables
 from tests.samples import BUSY, LIB, SYSTEM, SYSTEMS, WORK, lively_systems, not_usable, odd_values, random_systems, refusal
 
@@ -106,6 +107,29 @@ class AccountsTest(unittest.TestCase):
                 self.assertTrue(all(has_number(account[code][late], n) for n in numbers))
                 met += len(numbers)
         self.assertGreater(met, 150)
+
+    def test_long_runs(self):
+        """[9] What accounts tell holds in runs of many steps, for each process of a system that ends or is killed."""
+        rng = random.Random(376)
+        met = set()
+        for system in list(SYSTEMS) + lively_systems(377, 60):
+            accounts = {kind[0]: account_of(system, kind[0]) for kind in system}
+            model = Model(system)
+            for step in random_run(rng, system, 150):
+                before = {process.number: model.children(process.number) for process in model.living()}
+                dead = {number: sum(child.code != -1 for child in children) for number, children in before.items()}
+                model.do(step)
+                for process in model.all:
+                    if process.code != -1 and process.number in before:
+                        late = dead[process.number] < len(before[process.number])
+                        number = 1 + dead[process.number]
+                        self.assertTrue(has_number(accounts[process.kind][process.code][late], number))
+                        met.add((process.code, late, process.number > 0, number > 1))
+                first = model.all[0]
+                if first.code != -1:
+                    ends = sum(process.code != -1 and process.parent == -1 for process in model.there())
+                    self.assertTrue(has_number(accounts[first.kind][first.code][bool(model.living())], ends))
+        self.assertGreater(len(met), 15)
 
     def test_own_runs(self):
         self.assertEqual(account_of((LIB, *BUSY), 'mid'), account_of(BUSY, 'mid'))
