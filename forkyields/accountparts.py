@@ -14,8 +14,7 @@ def account_from(kind, rows):
 def tagged_account_from(kind, rows, tag):
     """The account with the tag that rows (state, settled, unsettled, and both with the tag) give."""
     marked = [(state, ws, wu) for state, settled, unsettled, ws, wu in rows]
-    whole = [row[:3] for row in rows if any_tagged(kind, row[0][1], tag)]
-    return account_from(kind, marked + whole)
+    return account_from(kind, marked + [row for row in rows if any_tagged(kind, row[0][1], tag)])
 
 
 def told_by(kind, rows, code, late):

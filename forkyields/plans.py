@@ -65,7 +65,7 @@ def end_goals(kind, rows, tag, wanted):
     for row in rows:
         place, contents = row[0]
         rest = number - 1 - ended_many(contents)
-        if rest >= 0 and (code == 2 or kind[2][place] == ("exit", code)):
+        if code == 2 or kind[2][place] == ("exit", code):
             open_mark = marked == 1 and not any_tagged(kind, contents, tag)
             for living in living_at_end(contents, late):
                 goals[(row[0], living, open_mark)] = ((rest,), (), 0)
@@ -102,6 +102,7 @@ def add_move(ladder, node, marked, move):
     """Enter a move that starts at a node."""
     word, told, state, living, marks, _ = move
     if marks and marked:
+        # There is the same move without marking.
         return
     target = ladder.node_for((state, living, marked or marks))
     if word == "add":
@@ -111,9 +112,8 @@ def add_move(ladder, node, marked, move):
     elif word == "some":
         ladder.above[node].append(target)
     else:
+        # What was marked is not needed any more without its mark: all numbers are there without a mark, too.
         ladder.fall(node, target, marked)
-        if marked:
-            ladder.fall(node, ladder.node_for((state, living, False)), False)
 
 
 def rows_from(ladder):

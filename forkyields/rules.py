@@ -147,14 +147,10 @@ def leads(move, before, after):
     """Whether a move leads from (state, number, living, marked) to another such."""
     word, told, state, living, marks, _ = move
     number, marked = before[1], before[3]
-    if (state, living) != (after[0], after[2]):
+    if (state, living, marked or marks) != (after[0], after[2], after[3]):
         return False
     if word == "take":
-        # Who is taken may have the tag; a second one that is marked stays.
-        stays = marked == after[3] or marked
-        return number >= (2 if after[3] else 1) and after[1] == number - 1 and stays
-    if after[3] != (marked or marks) or (marks and marked):
-        return False
+        return after[1] == number - 1
     if word == "add":
-        return after[1] >= number and holds(told, after[1] - number)
+        return holds(told, after[1] - number)
     return after[1] == number and (number == 0) == (word == "none")

@@ -62,7 +62,7 @@ class CountsTest(unittest.TestCase):
     def test_each_number(self):
         rng = random.Random(400)
         met = set()
-        for system in list(SYSTEMS) + [(LOOP, LIB), (WAITER, LOOP, LIB)] + lively_systems(401, 40, places=8):
+        for system in list(SYSTEMS) + [(LOOP, LIB), (WAITER, LOOP, LIB)] + lively_systems(401, 20, places=8):
             for kind in system:
                 accounts = windows(system, kind[0])
                 table = table_of(system, kind[0])

@@ -91,6 +91,32 @@ class RunToTest(unittest.TestCase):
         self.assertEqual(refusal(run_to, (THREE, LIB), 'three', (0, ((),)), 0, tag='t'), not_usable('number'))
         self.assertEqual(refusal(run_to, (THREE, LIB), 'three', (0, ((),)), 3, tag='v'), not_usable('number'))
 
+    def test_lives_with_or_without_a_tag(self):
+        """Children that can bring the same number with a tag or without it, in the pool, pushed out and in a slot."""
+        twin = ('twin', (), (('go', (1, 2)), ('fork', 'lib', 't', '', 3), ('fork', 'lib', 'u', '', 3), ('exit', 0)))
+        held = ('held', ('a',), (('go', (1, 2)), ('fork', 'lib', 't', 'a', 3), ('fork', 'lib', 'u', 'a', 3), ('exit', 0)))
+        for child in (twin, held):
+            name = child[0]
+            system = (('up', ('a',), (('fork', name, 'm', '', 1), ('fork', name, 'm', 'a', 2), ('kill', 'a', 3), ('exit', 0))),
+                      child, LIB)
+            for tag in 'tu':
+                self.check(system, 'up', (1, ((),)), 2, tag=tag)
+                for content, number in (((1, 0), 3), ((1, 2), 3), ((1, 2), 2)):
+                    self.check(system, 'up', (3, (content,)), number, tag=tag)
+                self.check(system, 'up', (3, ((1, 2),)), 1, living=True, tag=tag)
+                only = (('up', ('a',), (('fork', name, 'm', 'a', 1), ('kill', 'a', 2), ('exit', 0))), child, LIB)
+                for content in ((0, 0), (0, 2)):
+                    self.check(only, 'up', (2, (content,)), 1, tag=tag)
+            self.assertEqual(refusal(run_to, system, 'up', (1, ((),)), 1, living=True, tag='t'), not_usable('number'))
+
+    def test_takes_beside_a_tag(self):
+        """Of two ended children in the pool the one without the tag is taken, whichever was forked first."""
+        for first, second in ('tu', 'ut'):
+            system = (('up', (), (('fork', 'lib', first, '', 1), ('fork', 'lib', second, '', 2), ('wait', (), 3, 3, ()),
+                                  ('exit', 0))), LIB)
+            for tag in 'tu':
+                self.check(system, 'up', (3, ()), 1, tag=tag)
+
     def test_not_there(self):
         rng = random.Random(394)
         for system in list(SYSTEMS) + lively_systems(395, 20):

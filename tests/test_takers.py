@@ -188,6 +188,24 @@ class TakersTest(unittest.TestCase):
         self.assertEqual(self.check_paper(deep, 'two', 1, 'r'), 'tables')
         self.assertEqual(self.check_paper((('front', (), (('exit', 0),)), *deep), 'three', 1, 'x'), 'tables')
 
+    def test_papers_beside_a_living_child(self):
+        """A kind that always has a living child in its pool: where it takes, and where it forks who takes."""
+        stays = ('stays', (), (('go', (0,)),))
+        busy = ('busy', ('a',), (('fork', 'stays', 'u', '', 1), ('fork', 'lib', 't', 'a', 2), ('wait', (('a', 3, 3, 3),), -1, 3, ()),
+                                 ('fork', 'lib', 'v', '', 4), ('wait', (), 5, 5, ()), ('fork', 'work', 'w', 'a', 6), ('exit', 0)))
+        over = ('over', ('b',), (('fork', 'stays', 'u', '', 1), ('fork', 'busy', 'u', 'b', 2), ('exit', 0)))
+        for front, name in (((), 'busy'), ((over,), 'busy')):
+            system = (*front, busy, stays, WORK, LIB)
+            for place, tag, word in ((2, 't', 'run'), (4, 'v', 'run'), (4, 't', 'tables'), (4, 'u', 'tables')):
+                self.assertEqual(self.check_paper(system, name, place, tag), word)
+
+    def test_papers_of_a_tag_or_another(self):
+        twin = ('twin', (), (('go', (1, 2)), ('fork', 'lib', 't', '', 3), ('fork', 'lib', 'u', '', 3), ('exit', 0)))
+        system = (('up', (), (('fork', 'twin', 'm', '', 1), ('wait', (), 2, 2, ()), ('wait', (), 3, 3, ()), ('exit', 0))), twin, LIB)
+        for place in (1, 2):
+            for tag in ('t', 'u', 'm'):
+                self.assertEqual(self.check_paper(system, 'up', place, tag), 'run')
+
     def test_papers_of_slots(self):
         for code in (0, 1, 2):
             self.assertEqual(self.check_paper(KEEPER, 'keep', 3, 'x'), 'run')
