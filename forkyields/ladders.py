@@ -1,6 +1,7 @@
 """Nodes with a number that goes up and down by one: which nodes are reached with which numbers, and on which way."""
 
 from forkyields.progressions import gathered, holds
+from forkyields.searches import groups_of, spread_over, turned_round
 
 
 class Ladder:
@@ -77,49 +78,45 @@ class Ladder:
         return [(after, number) for after in same] + lower + [(after, number + 1) for after in self.up[node]]
 
 
-def spread_over(steps, first):
-    """All nodes to which these steps lead from the first ones, themselves among them, ascending."""
-    found = {node: True for node in first}
-    pending = list(found)
-    while pending:
-        node = pending.pop()
-        for after in steps[node]:
-            if after not in found:
-                found[after] = True
-                pending.append(after)
-    return tuple(sorted(set(found)))
-
-
 def leading_to(ladder, goals):
     """For each node, whether some steps lead from it to one of the goals, whatever the numbers."""
-    back = [[] for node in ladder.nodes]
-    for steps in (ladder.level, ladder.ground, ladder.above, ladder.up, ladder.down):
-        for node, afters in enumerate(steps):
-            for after in afters:
-                back[after].append(node)
-    found = {node: True for node in spread_over(back, goals)}
+    kept = [level + ground for level, ground in zip(above_steps(ladder), ladder.ground)]
+    steps = [same + up + down for same, up, down in zip(kept, ladder.up, ladder.down)]
+    found = {node: True for node in spread_over(turned_round(steps), goals)}
     return [node in found for node in range(len(ladder.nodes))]
 
 
-def falls_of(ladder):
-    """For each node to which a step up leads: the nodes to which one comes down from there, one below, at first."""
+def by_group(steps, group):
+    """For each group, a dict of the nodes to which steps of its nodes lead."""
+    merged = {part: {} for part in group}
+    for node, afters in enumerate(steps):
+        for after in afters:
+            merged[group[node]][after] = True
+    return merged
+
+
+def falls_of(ladder, group):
+    """For each group to which a step up leads, from a number above 0 on: the nodes to which one comes down from there,
+    one below, at first. Nodes that lead to each other above 0 make a group."""
     useful = leading_to(ladder, [node for node, afters in enumerate(ladder.down) if afters])
-    bases = {base: True for node, ups in enumerate(ladder.up) if useful[node] for base in ups}
-    falls = {base: {} for base in bases}
-    callers = {base: {} for base in bases}
-    held = {base: {base: True} for base in bases}
-    pending = [(base, base) for base in bases]
+    level = by_group([[group[after] for after in afters] for afters in above_steps(ladder)], group)
+    up = by_group([[group[after] for after in afters] for afters in ladder.up], group)
+    down = by_group(ladder.down, group)
+    falls = {base: {} for part in up if useful[part] for base in up[part]}
+    callers = {base: {} for base in falls}
+    held = {base: {base: True} for base in falls}
+    pending = [(base, base) for base in falls]
     while pending:
-        base, node = pending.pop()
-        found = [(base, after) for after in ladder.level[node] + ladder.above[node]]
-        for after in ladder.down[node]:
+        base, part = pending.pop()
+        found = [(base, after) for after in level[part]]
+        for after in down[part]:
             if after not in falls[base]:
                 falls[base][after] = True
-                found.extend([(caller, after) for caller in callers[base]])
-        for higher in ladder.up[node]:
-            if higher in falls:
+                found.extend([(caller, group[after]) for caller in callers[base]])
+        for higher in up[part]:
+            if higher in falls and base not in callers[higher]:
                 callers[higher][base] = True
-                found.extend([(base, after) for after in falls[higher]])
+                found.extend([(base, group[after]) for after in falls[higher]])
         for caller, after in found:
             if useful[after] and after not in held[caller]:
                 held[caller][after] = True
@@ -127,27 +124,38 @@ def falls_of(ladder):
     return falls
 
 
-def level_steps(ladder, falls, more):
-    """For each node, the nodes to which one comes with the same number, more of them by the further steps."""
+def above_steps(ladder):
+    """For each node, the nodes to which steps lead that keep a number above 0."""
+    return [level + above for level, above in zip(ladder.level, ladder.above)]
+
+
+def level_steps(ladder, more, falls, group):
+    """For each node, the nodes to which one comes with the same number, more of them by the further steps.
+
+    Behind the nodes of the ladder there is one for each group with falls, to spare the same list for many nodes.
+    """
+    places = {base: len(ladder.nodes) + k for k, base in enumerate(falls)}
     steps = []
     for node, ups in enumerate(ladder.up):
-        back = [after for base in ups if base in falls for after in falls[base]]
+        back = [places[group[after]] for after in ups if group[after] in places]
         steps.append(ladder.level[node] + more[node] + back)
-    return steps
+    return steps + [list(falls[base]) for base in falls]
 
 
 def levels_of(ladder):
     """For each number the ascending tuple of the nodes that have it, until all repeats; and where that begins."""
-    falls = falls_of(ladder)
-    nodes = spread_over(level_steps(ladder, falls, ladder.ground), [0])
-    steps = level_steps(ladder, falls, ladder.above)
+    group = groups_of(above_steps(ladder))
+    falls = falls_of(ladder, group)
+    many = len(ladder.nodes)
+    nodes = spread_over(level_steps(ladder, ladder.ground, falls, group), [0])
+    steps = level_steps(ladder, ladder.above, falls, group)
     met = {}
     levels = []
     while nodes not in met:
         met[nodes] = len(levels)
-        levels.append(nodes)
+        levels.append([node for node in nodes if node < many])
         # What is possible above 0 is the same at each number, so the nodes with one number tell those with the next.
-        nodes = spread_over(steps, [after for node in nodes for after in ladder.up[node]])
+        nodes = spread_over(steps, [after for node in levels[-1] for after in ladder.up[node]])
     return (levels, met[nodes])
 
 

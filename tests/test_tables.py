@@ -23,6 +23,9 @@ LOOP = ('loop', (), (('go', (1, 2)), ('fork', 'lib', 'm', '', 0), ('exit', 0)))
 CODES = ('codes', (), (('go', (1, 2)), ('exit', 0), ('exit', 1)))
 
 
+CODES_LOW = ('low', (), CODES[2])
+
+
 def some(*numbers):
     return (numbers, (), 0)
 
@@ -195,6 +198,18 @@ class NumbersTest(unittest.TestCase):
         rows = {state: numbers for state, *numbers in table_of(three, 'main')}
         self.assertEqual(rows[(3, ())], [((), (3,), 3), ANY])
         self.assertEqual(rows[(5, ())][0], ANY)
+
+    def test_many_states(self):
+        """A kind that can do anything at any moment, with two slots: all states, all numbers."""
+        forks = [('fork', 'low', 't', slot, 0) for slot in 'aaabbb']
+        dense = main(('go', tuple(range(1, 13))), *forks, ('wait', (('a', 0, 0, 0), ('b', 0, 0, 0)), 0, 0, ()),
+                     ('poll', (), 0, 0, 0, ()), ('kill', 'a', 0), ('kill', 'b', 0), ('release', 'a', 0), ('exit', 0),
+                     slots=('a', 'b'))
+        rows = {state: numbers for state, *numbers in table_of((dense, CODES_LOW), 'main')}
+        contents = [()] + [(p, code) for p in (1, 2, 3) for code in (-1, 0, 1, 2)]
+        others = [()] + [(p, code) for p in (4, 5, 6) for code in (-1, 0, 1, 2)]
+        self.assertEqual(set(rows), {(p, (a, b)) for p in range(13) for a in contents for b in others})
+        self.assertEqual({tuple(numbers) for numbers in rows.values()}, {(ANY, ANY)})
 
     def test_form(self):
         for system in list(SYSTEMS) + lively_systems(350, 40):
