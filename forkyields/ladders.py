@@ -99,8 +99,8 @@ def falls_of(ladder, group):
     """For each group to which a step up leads, from a number above 0 on: the nodes to which one comes down from there,
     one below, at first. Nodes that lead to each other above 0 make a group."""
     useful = leading_to(ladder, [node for node, afters in enumerate(ladder.down) if afters])
-    level = by_group([[group[after] for after in afters] for afters in above_steps(ladder)], group)
-    up = by_group([[group[after] for after in afters] for afters in ladder.up], group)
+    level = by_group([[group[node] for node in afters] for afters in above_steps(ladder)], group)
+    up = by_group([[group[node] for node in afters] for afters in ladder.up], group)
     down = by_group(ladder.down, group)
     falls = {base: {} for part in up if useful[part] for base in up[part]}
     callers = {base: {} for base in falls}

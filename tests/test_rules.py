@@ -260,6 +260,23 @@ class RulesTest(unittest.TestCase):
         for path, node in nodes(ast.comprehension):
             self.holds(not node.is_async, path, node, 'L6')
 
+    def test_names_in_comprehensions(self):
+        kinds = (ast.ListComp, ast.DictComp)
+        for path, node in nodes(ast.FunctionDef):
+            outer = [part for part in ast.walk(node) if isinstance(part, kinds)]
+            within = {id(part) for made in outer for part in ast.walk(made) if part is not made}
+            assigned = {part.arg for part in ast.walk(node.args) if isinstance(part, ast.arg)} | {
+                part.id for part in ast.walk(node)
+                if isinstance(part, ast.Name) and isinstance(part.ctx, ast.Store) and id(part) not in within}
+            for made in outer:
+                for part in ast.walk(made):
+                    if isinstance(part, kinds) and part is not made:
+                        clash = self.loop_names(part) & (assigned | self.loop_names(made))
+                        self.holds(not clash, path, part, 'L7 Names in comprehensions')
+
+    def loop_names(self, made):
+        return {part.id for loop in made.generators for part in ast.walk(loop.target) if isinstance(part, ast.Name)}
+
     def test_calls(self):
         functions = {node.name for path, tree in TREES.items() for node in tree.body
                      if isinstance(node, ast.FunctionDef)}
