@@ -57,7 +57,7 @@ class Account:
 
     def __or__(self, other):
         if not isinstance(other, Account):
-            return NotImplemented
+            raise TypeError("an account is joined with accounts alone")
         return Account(joined_accounts(self._parts, other._parts))
 
 

@@ -23,6 +23,13 @@ class RunTextsTest(unittest.TestCase):
                 self.assertEqual(step_text((process, word, -1)), f'{process} {word}')
                 self.assertTrue(same(read_step(step_text((process, word, -1))), (process, word, -1)))
 
+    def test_numbers_of_each_length(self):
+        for many in range(1, 61):
+            for number in (10 ** (many - 1), 10 ** many - 1, int('7' * many)):
+                for step in ((number, 'go', 3), (0, 'take', number), (number, 'take', number), (number, 'exit', -1)):
+                    self.assertEqual(step_text(step).split(' '), [str(part) for part in step if part != -1])
+                    self.assertTrue(same(read_step(step_text(step)), step))
+
     def test_no_steps(self):
         for wrong in odd_values() + list(spoiled((0, 'go', 1))) + list(spoiled((3, 'exit', -1))):
             if not is_step(wrong):
