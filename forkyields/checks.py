@@ -34,3 +34,17 @@ def need_place(system, kind, place):
 def need_wait(system, kind, place):
     """Refuse a place that is no wait and no poll."""
     need(is_waiting(kind_called(system, kind)[2][place]), "place")
+
+
+def need_tag(tag):
+    """Refuse what is no name of a tag."""
+    need(is_name(tag), "tag")
+
+
+def check_take(system, kind, place, tag):
+    """Refuse the first parameter of a take that is not as stated."""
+    need_system(system)
+    need_kind(system, kind)
+    need_place(system, kind, place)
+    need_wait(system, kind, place)
+    need_tag(tag)

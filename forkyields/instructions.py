@@ -1,4 +1,4 @@
-"""Parts of an instruction that is one by form."""
+"""Parts of instructions that are ones by form."""
 
 
 def is_waiting(instruction):
@@ -54,3 +54,8 @@ def all_tags(instruction):
     if instruction[0] == "fork":
         return [instruction[2]]
     return []
+
+
+def fork_tags(system):
+    """The tags of all forks of a system, ascending."""
+    return sorted(set([place[2] for kind in system for place in kind[2] if place[0] == "fork"]))

@@ -1,5 +1,6 @@
 """Nodes with a number that goes up and down by one: which nodes are reached with which numbers, and on which way."""
 
+from forkyields.falls import falls_of
 from forkyields.progressions import gathered, holds
 from forkyields.searches import groups_of, spread_over, turned_round
 
@@ -86,44 +87,6 @@ def leading_to(ladder, goals):
     return [node in found for node in range(len(ladder.nodes))]
 
 
-def by_group(steps, group):
-    """For each group, a dict of the nodes to which steps of its nodes lead."""
-    merged = {part: {} for part in group}
-    for node, afters in enumerate(steps):
-        for after in afters:
-            merged[group[node]][after] = True
-    return merged
-
-
-def falls_of(ladder, group):
-    """For each group to which a step up leads, from a number above 0 on: the nodes to which one comes down from there,
-    one below, at first. Nodes that lead to each other above 0 make a group."""
-    useful = leading_to(ladder, [node for node, afters in enumerate(ladder.down) if afters])
-    level = by_group([[group[node] for node in afters] for afters in above_steps(ladder)], group)
-    up = by_group([[group[node] for node in afters] for afters in ladder.up], group)
-    down = by_group(ladder.down, group)
-    falls = {base: {} for part in up if useful[part] for base in up[part]}
-    callers = {base: {} for base in falls}
-    held = {base: {base: True} for base in falls}
-    pending = [(base, base) for base in falls]
-    while pending:
-        base, part = pending.pop()
-        found = [(base, after) for after in level[part]]
-        for after in down[part]:
-            if after not in falls[base]:
-                falls[base][after] = True
-                found.extend([(caller, group[after]) for caller in callers[base]])
-        for higher in up[part]:
-            if higher in falls and base not in callers[higher]:
-                callers[higher][base] = True
-                found.extend([(base, group[after]) for after in falls[higher]])
-        for caller, after in found:
-            if useful[after] and after not in held[caller]:
-                held[caller][after] = True
-                pending.append((caller, after))
-    return falls
-
-
 def above_steps(ladder):
     """For each node, the nodes to which steps lead that keep a number above 0."""
     return [level + above for level, above in zip(ladder.level, ladder.above)]
@@ -137,15 +100,16 @@ def level_steps(ladder, more, falls, group):
     places = {base: len(ladder.nodes) + k for k, base in enumerate(falls)}
     steps = []
     for node, ups in enumerate(ladder.up):
-        back = [places[group[after]] for after in ups if group[after] in places]
+        back = [places[group[after]] for after in ups]
         steps.append(ladder.level[node] + more[node] + back)
-    return steps + [list(falls[base]) for base in falls]
+    return steps + [falls[base] for base in falls]
 
 
 def levels_of(ladder):
     """For each number the ascending tuple of the nodes that have it, until all repeats; and where that begins."""
-    group = groups_of(above_steps(ladder))
-    falls = falls_of(ladder, group)
+    above = above_steps(ladder)
+    group = groups_of(above)
+    falls = falls_of(ladder, group, above)
     many = len(ladder.nodes)
     nodes = spread_over(level_steps(ladder, ladder.ground, falls, group), [0])
     steps = level_steps(ladder, ladder.above, falls, group)

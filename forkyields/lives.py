@@ -3,7 +3,7 @@
 from forkyields.checks import kind_called, need, need_kind, need_system
 from forkyields.kinds import is_name, is_number, is_one_of, is_word
 from forkyields.plans import Plan
-from forkyields.playouts import Playout
+from forkyields.playouts import Playout, life_in
 from forkyields.progressions import holds
 from forkyields.stateparts import is_state_of
 from forkyields.systemparts import cut_at
@@ -35,7 +35,4 @@ def life_of(system, kind, code, number, *, living=False):
     plan = Plan(own, "")
     late = 1 if living else 0
     need(is_number(number) and holds(plan.accounts[kind][0][code][late], number), "number")
-    playout = Playout(own, plan)
-    playout.follow(0, plan.way_to_end(kind, code, number, late, 0))
-    playout.do_step(0, "exit", -1)
-    return tuple(playout.steps)
+    return life_in(own, plan, (code, number, late, 0))

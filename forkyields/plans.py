@@ -24,14 +24,21 @@ class Plan:
     def add_kind(self, kind):
         """Find the table of a kind; those of all later ones are there."""
         name = kind[0]
-        ladder = ladder_of(kind, self.gains, self.tag)
-        rows = rows_from(ladder)
+        self.ladders[name] = ladder_of(self, kind)
+        self.tables[name] = rows_from(self.ladders[name])
+        rows = self.ending_rows(kind)
         account = account_from(kind, rows)
         tagged = tagged_account_from(kind, rows, self.tag)
-        self.ladders[name] = ladder
-        self.tables[name] = rows
         self.accounts[name] = (account, tagged)
         self.gains[name] = gains_from(account, tagged)
+
+    def moves(self, kind, state, living):
+        """The moves from a state of a kind."""
+        return moves_of(kind, self.gains, self.tag, state, living)
+
+    def ending_rows(self, kind):
+        """The rows of a kind in which it can end."""
+        return self.tables[kind[0]]
 
     def ways(self, name, goals):
         """A way to a goal, as a list of (state, number, living, marked); goals has number sets by (state, living,
@@ -53,9 +60,14 @@ class Plan:
         marked 1; it is there."""
         wanted = (name, code, number, late, marked)
         if wanted not in self.ends:
-            rows = self.tables[name]
+            rows = self.ending_rows(self.kinds[name])
             self.ends[wanted] = self.ways(name, end_goals(self.kinds[name], rows, self.tag, wanted))
         return self.ends[wanted]
+
+
+def tables_in(system, plan):
+    """The tables of a plan, for each kind in order."""
+    return tuple([plan.tables[kind[0]] for kind in system])
 
 
 def end_goals(kind, rows, tag, wanted):
@@ -84,15 +96,15 @@ def is_whole(node):
     return isinstance(node[0], tuple)
 
 
-def ladder_of(kind, gains, tag):
-    """The ladder that the rules make of a kind, with nodes (state, living, marked)."""
+def ladder_of(plan, kind):
+    """The ladder that the moves of a plan make of a kind, with nodes (state, living, marked)."""
     ladder = Ladder()
     ladder.node_for((beginning(kind), False, False))
     done = 0
     while done < len(ladder.nodes):
         if is_whole(ladder.nodes[done]):
             state, living, marked = ladder.nodes[done]
-            for move in moves_of(kind, gains, tag, state, living):
+            for move in plan.moves(kind, state, living):
                 add_move(ladder, done, marked, move)
         done = done + 1
     return ladder

@@ -1,6 +1,6 @@
 """Runs made up along ways: what each move is in steps, and what children do meanwhile."""
 
-from forkyields.rules import leads, moves_of
+from forkyields.rules import leads
 from forkyields.worlds import CODE, KIND, POOL, SLOTS, TAG, first_world, instruction_at, program_of, world_after
 
 
@@ -27,7 +27,7 @@ class Playout:
     def note_of(self, process, before, after):
         """The note of a move by which a process comes from one end of it to the other."""
         kind = self.program[self.world[process][KIND]]
-        moves = moves_of(kind, self.plan.gains, self.plan.tag, before[0], before[2])
+        moves = self.plan.moves(kind, before[0], before[2])
         return [move[5] for move in moves if leads(move, before, after)][0]
 
     def do_move(self, process, note, by):
@@ -70,3 +70,11 @@ class Playout:
         lying = [child for child in self.world[process][POOL] if self.world[child][CODE] != -1]
         others = [child for child in lying if self.world[child][TAG] != self.plan.tag]
         return (others + lying)[0]
+
+
+def life_in(system, plan, end):
+    """A run behind which process 0 has ended; end is (code, number, late, marked), to which the plan tells a way."""
+    playout = Playout(system, plan)
+    playout.follow(0, plan.way_to_end(system[0][0], *end))
+    playout.do_step(0, "exit", -1)
+    return tuple(playout.steps)

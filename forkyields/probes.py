@@ -7,13 +7,13 @@ from forkyields.kinds import is_name, is_number, is_one_of
 def settled_probe(kind, code, number, *, called="probe"):
     """A kind, and the place to which it comes if so many endings are all that one fork brings."""
     check_probe(kind, code, number, called)
-    return probe_of(kind, code, number, called, True)
+    return probe_of(kind, code, number, called, "settled")
 
 
 def reach_probe(kind, code, number, *, called="probe"):
     """A kind, and the place to which it comes if something is still there behind so many takes."""
     check_probe(kind, code, number, called)
-    return probe_of(kind, code, number, called, False)
+    return probe_of(kind, code, number, called, "reach")
 
 
 def check_probe(kind, code, number, called):
@@ -24,8 +24,8 @@ def check_probe(kind, code, number, called):
     need(is_name(called) and called != kind, "called")
 
 
-def probe_of(kind, code, number, called, settled):
-    """The probe, which looks for no child behind its takes if settled, otherwise for one."""
+def probe_of(kind, code, number, called, looking):
+    """The probe, looking behind its takes for no child (settled), for one (reach), or for one that sleeps (rest)."""
     begin = [("fork", kind, "x", "a", 1)] + ([("kill", "a", 2)] if code == 2 else [])
     taking = len(begin)
     place = taking + number + 1
@@ -33,5 +33,10 @@ def probe_of(kind, code, number, called, settled):
     targets = [taking + 1 if known == code else last for known in (0, 1, 2)]
     takes = [("wait", (("a", *targets),), -1, last, ())]
     takes = takes + [("wait", (), p + 1, last, ()) for p in range(taking + 1, taking + number)]
-    look = ("wait", (), last, place, ()) if settled else ("poll", (), last, last, place, ())
-    return ((called, ("a",), (*begin, *takes, look, ("exit", 0), ("exit", 1))), place)
+    looks = {
+        "settled": ("wait", (), last, place, ()),
+        "reach": ("poll", (), last, last, place, ()),
+        "rest": ("wait", (), last, last, ()),
+    }
+    probe = (called, ("a",), (*begin, *takes, looks[looking], ("exit", 0), ("exit", 1)))
+    return (probe, place - 1 if looking == "rest" else place)

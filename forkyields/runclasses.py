@@ -6,6 +6,7 @@ from forkyields.kinds import is_number, is_step
 from forkyields.playing import played, refusal
 from forkyields.runreadings import read_run
 from forkyields.runtexts import run_lines
+from forkyields.trials import Trial
 from forkyields.worlds import all_steps, first_world, program_of, tree_of, world_after
 
 
@@ -71,20 +72,6 @@ class Run:
         if not isinstance(other, Run):
             return NotImplemented
         return self._system == other._system and begins_with(self._steps, other._steps)
-
-
-class Trial:
-    """While it is entered, a driver may do anything: at the end all is as it was when the trial was made."""
-
-    def __init__(self, driver, past):
-        self._driver = driver
-        self._past = past
-
-    def __enter__(self):
-        return self._driver
-
-    def __exit__(self, kind, value, trace):
-        self._driver._past = self._past
 
 
 class Driver:

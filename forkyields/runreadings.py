@@ -33,7 +33,7 @@ def read_run(system, text):
 
 def wrong_field(words):
     """The index of the first word of a step that cannot stand or is missing, -1 if all is right."""
-    if read_number(words[0]) is None:
+    if not words or read_number(words[0]) is None:
         return 0
     if len(words) == 1 or words[1] not in STEP_WORDS:
         return 1

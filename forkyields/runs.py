@@ -46,6 +46,11 @@ def seen_step(program, step, rows):
 def takes_in(system, run):
     """A row for each take: step, taker, its place, child, tag, whether the wait or poll is meant for it."""
     checked_world(system, run)
+    return take_rows(system, run)
+
+
+def take_rows(system, run):
+    """A row for each take of a run."""
     program = program_of(system)
     rows = moments(system, run)
     return tuple([take_row(program, k, row, child) for k, (row, child) in enumerate(rows) if child])

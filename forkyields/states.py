@@ -18,10 +18,7 @@ def state_of(system, run, process):
     """The state of a living process behind a run."""
     world = checked_world(system, run)
     need(is_number(process) and lives(world, process), "process")
-    places = fork_places(system, run)
-    row = world[process]
-    held = [(places[child], world[child][CODE]) if child != -1 else () for child in row[SLOTS]]
-    return (row[PLACE], tuple(held))
+    return state_in(system, run, world, process)
 
 
 def pool_of(system, run, process):
@@ -31,6 +28,14 @@ def pool_of(system, run, process):
     pool = world[process][POOL]
     living = len([child for child in pool if lives(world, child)])
     return (len(pool) - living, living)
+
+
+def state_in(system, run, world, process):
+    """The state of a living process in the world behind a run."""
+    places = fork_places(system, run)
+    row = world[process]
+    held = [(places[child], world[child][CODE]) if child != -1 else () for child in row[SLOTS]]
+    return (row[PLACE], tuple(held))
 
 
 def fork_places(system, run):

@@ -14,8 +14,12 @@ def instruction_text(instruction):
 def system_text(system):
     """The lines that write a system, with newlines between."""
     need_system(system)
-    lines = [line for kind in system for line in kind_lines(kind)]
-    return "\n".join(lines)
+    return "\n".join(system_lines(system))
+
+
+def system_lines(system):
+    """The list of the lines that write a system."""
+    return [line for kind in system for line in kind_lines(kind)]
 
 
 def kind_lines(kind):

@@ -1,7 +1,6 @@
 """The numbers of a kind with a tag."""
 
-from forkyields.checks import need, need_kind, need_system
-from forkyields.kinds import is_name
+from forkyields.checks import need_kind, need_system, need_tag
 from forkyields.plans import Plan
 from forkyields.rules import NONE
 from forkyields.systemparts import cut_at
@@ -22,5 +21,5 @@ def tagged_plan(system, kind, tag):
     """The plan of a kind and a tag, the first parameter that is none refused."""
     need_system(system)
     need_kind(system, kind)
-    need(is_name(tag), "tag")
+    need_tag(tag)
     return Plan(cut_at(system, kind), tag)

@@ -1,12 +1,11 @@
 """Which endings can be taken by which waits and polls."""
 
-from forkyields.checks import kind_called, need, need_kind, need_place, need_system, need_wait
-from forkyields.instructions import all_tags, is_waiting
-from forkyields.kinds import is_name
-from forkyields.plans import Plan
+from forkyields.checks import check_take, kind_called, need_kind, need_system
+from forkyields.instructions import fork_tags
+from forkyields.plans import Plan, tables_in
 from forkyields.playouts import Playout
 from forkyields.rules import EVERY
-from forkyields.takings import forkers_by, shows_in_slot, shows_take
+from forkyields.takings import foreign_by, forkers_by, rows_taking, shows_in_slot
 from forkyields.worlds import CODE, TAG, children_in_reach
 
 
@@ -26,14 +25,22 @@ def can_take(system, kind, place, tag):
 def foreign_takes(system):
     """The set of all (kind, place, tag) for which a child with the tag can be taken by a wait not meant for it."""
     need_system(system)
-    tags = [place[2] for kind in system for place in kind[2] if place[0] == "fork"]
-    found = [take for tag in sorted(set(tags)) for take in foreign_with(system, tag)]
+    found = [take for tag in fork_tags(system) for take in foreign_with(system, tag)]
     return tuple(sorted(set(found)))
 
 
 def is_calm(system):
     """Whether no foreign take is possible."""
-    return not foreign_takes(system)
+    need_system(system)
+    return not any_foreign(system, fork_tags(system))
+
+
+def any_foreign(system, tags):
+    """Whether a foreign take of a child with one of these tags is possible."""
+    for tag in tags:
+        if foreign_with(system, tag):
+            return True
+    return False
 
 
 def take_paper(system, kind, place, tag):
@@ -46,38 +53,15 @@ def take_paper(system, kind, place, tag):
     return ("tables", tables_in(system, plan))
 
 
-def check_take(system, kind, place, tag):
-    """Refuse the first parameter of a take that is not as stated."""
-    need_system(system)
-    need_kind(system, kind)
-    need_place(system, kind, place)
-    need_wait(system, kind, place)
-    need(is_name(tag), "tag")
-
-
-def tables_in(system, plan):
-    """The tables of a plan, for each kind in order."""
-    return tuple([plan.tables[kind[0]] for kind in system])
-
-
 def foreign_with(system, tag):
-    """All (kind, place, tag) with a foreign take of a child with this tag."""
-    plan = Plan(system, tag)
-    found = []
-    for kind in system:
-        for place, instruction in enumerate(kind[2]):
-            if is_waiting(instruction) and tag not in all_tags(instruction):
-                if rows_to_take(system, plan, kind[0], place):
-                    found.append((kind[0], place, tag))
-    return found
+    """All (kind, place, tag), some perhaps several times, with a foreign take of a child with this tag."""
+    return foreign_by(system, tables_in(system, Plan(system, tag)), tag)
 
 
 def rows_to_take(system, plan, kind, place):
     """The rows of a kind at a wait or poll that show a take, none if the kind does not come."""
-    if kind not in forkers_by(system, tables_in(system, plan)):
-        return []
-    known = kind_called(system, kind)
-    return [row for row in plan.tables[kind] if row[0][0] == place and shows_take(known, row, plan.tag)]
+    rows = plan.tables[kind]
+    return [rows[k] for k in rows_taking(system, tables_in(system, plan), kind, place, plan.tag)]
 
 
 def run_to_take(system, plan, kind, rows):

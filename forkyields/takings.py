@@ -1,8 +1,8 @@
 """What tables tell of the kinds that come, and of the takes that are possible."""
 
-from forkyields.instructions import has_pool, row_slots
+from forkyields.instructions import all_tags, has_pool, is_waiting, row_slots
 from forkyields.rules import NONE
-from forkyields.stateparts import content_of, has_tag
+from forkyields.stateparts import any_tagged, content_of, has_tag
 
 
 def forkers_by(system, tables):
@@ -27,6 +27,30 @@ def has_numbers(row):
     return row[1] != NONE or row[2] != NONE
 
 
+def rows_taking(system, tables, name, place, tag):
+    """The indexes of the rows of a kind that show a take at a wait or poll, none if the kind does not come."""
+    if name not in forkers_by(system, tables):
+        return []
+    k = [kind[0] for kind in system].index(name)
+    return [at for at, row in enumerate(tables[k]) if row[0][0] == place and shows_take(system[k], row, tag)]
+
+
+def foreign_by(system, tables, tag):
+    """All (kind, place, tag), some perhaps several times, for which rows of kinds that come show a foreign take."""
+    comers = forkers_by(system, tables)
+    found = []
+    for kind, rows in zip(system, tables):
+        if kind[0] in comers:
+            foreign = [row for row in rows if is_foreign(kind[2][row[0][0]], tag)]
+            found.extend([(kind[0], row[0][0], tag) for row in foreign if shows_take(kind, row, tag)])
+    return found
+
+
+def is_foreign(instruction, tag):
+    """Whether an instruction is a wait or poll that is not meant for the tag."""
+    return is_waiting(instruction) and tag not in all_tags(instruction)
+
+
 def shows_take(kind, row, tag):
     """Whether a row with numbers with a tag shows a take of a child with the tag at its wait or poll."""
     return has_numbers(row) and (shows_in_slot(kind, row, tag) or shows_in_pool(kind, row))
@@ -41,4 +65,17 @@ def shows_in_slot(kind, row, tag):
 
 def shows_in_pool(kind, row):
     """Whether the wait or poll of a row looks at the pool, and there are numbers with the tag."""
-    return has_pool(kind[2][row[0][0]]) and (row[3] != NONE or row[4] != NONE)
+    return has_pool(kind[2][row[0][0]]) and has_tagged(row)
+
+
+def shows_outside(kind, row, tag):
+    """Whether a row of the first kind shows that a child with the tag comes to lie outside."""
+    place, contents = row[0]
+    if kind[2][place][0] != "exit" or not has_numbers(row):
+        return False
+    return any_tagged(kind, contents, tag) or has_tagged(row)
+
+
+def has_tagged(row):
+    """Whether a row has a settled or unsettled number with the tag."""
+    return row[3] != NONE or row[4] != NONE

@@ -40,6 +40,11 @@ def lying_with(system, run, process):
     """The set of those children of a living process that have ended."""
     world = checked_world(system, run)
     need(is_number(process) and lives(world, process), "process")
+    return lying_in(world, process)
+
+
+def lying_in(world, process):
+    """The set of the ended children of a living process."""
     return tuple(sorted(set([child for child in children_in(world[process]) if world[child][CODE] != -1])))
 
 

@@ -169,3 +169,40 @@ def lively_system(rng, kinds=4, places=7, slots=2):
 def lively_systems(seed, many, **sizes):
     rng = random.Random(seed)
     return [lively_system(rng, **sizes) for _ in range(many)]
+
+
+def sleepy_kind(rng, name, later, slots, many):
+    """A kind that forks into slots and waits, mostly for what does not come; its last place is an exit."""
+    def place(p):
+        return p + 1 if rng.random() < 0.9 else rng.randrange(many)
+
+    places = []
+    for p in range(many - 1):
+        words = ['fork'] * (9 if p == 0 else 4) * bool(later) + ['wait'] * (1 + 8 * p) + ['go', 'poll', 'exit'] * (p > 0)
+        words += ['kill', 'release'] * bool(p and slots)
+        word = rng.choice(words)
+        tags = tuple(sorted(rng.sample('tuv', rng.randrange(3))))
+        rows = tuple((slot, place(p), place(p), place(p)) for slot in slots if rng.random() < 0.25)
+        pool = place(p) if not rows or rng.random() < 0.5 else -1
+        places.append({
+            'go': ('go', tuple(sorted({place(p), rng.randrange(many)}))),
+            'fork': ('fork', rng.choice(later or ['']), rng.choice('tuv'), rng.choice([*slots, *slots, *slots, '']), place(p)),
+            'wait': ('wait', rows, pool, place(p), tags), 'poll': ('poll', rows, pool, place(p), place(p), tags),
+            'kill': ('kill', rng.choice(slots or ['']), place(p)),
+            'release': ('release', rng.choice(slots or ['']), place(p)), 'exit': ('exit', rng.randrange(2))}[word])
+    return (name, slots, (*places, ('exit', rng.randrange(2))))
+
+
+def sleepy_system(rng, kinds=4, places=6):
+    names = [f's{letter}' for letter in 'abcdefgh'[:rng.randint(2, kinds)]]
+    made = []
+    for i, name in enumerate(names):
+        later = names[i + 1:]
+        own = ('a', 'b')[:rng.choice((1, 1, 2)) if later else 0]
+        made.append(sleepy_kind(rng, name, later, own, rng.randint(3 if later else 1, places)))
+    return tuple(made)
+
+
+def sleepy_systems(seed, many, **sizes):
+    rng = random.Random(seed)
+    return [sleepy_system(rng, **sizes) for _ in range(many)]

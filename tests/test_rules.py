@@ -375,11 +375,14 @@ class RulesTest(unittest.TestCase):
 
     def test_attributes(self):
         stored = {node.attr for _, node in nodes(ast.Attribute) if isinstance(node.ctx, ast.Store)}
+        values = {target.id for made in classes().values() for part in made.body if isinstance(part, ast.Assign)
+                  for target in part.targets}
+        self.assertFalse(values & (stored | own_methods()))
         properties = {part.name for made in classes().values() for part in made.body
                       if isinstance(part, ast.FunctionDef) and part.decorator_list}
         for path, node in nodes(ast.Attribute):
             if isinstance(node.ctx, ast.Load):
-                self.holds(node.attr in stored | properties | METHODS | own_methods() | {'setter'}, path, node, 'L18')
+                self.holds(node.attr in stored | values | properties | METHODS | own_methods() | {'setter'}, path, node, 'L18')
         self.assertFalse(stored & own_methods())
         self.assertFalse(stored & METHODS)
 
