@@ -17,8 +17,9 @@ def grown(counted, behind, number=0, tagged=0, living=False):
     return (behind, counted[1] + number, counted[2] + tagged, counted[3] or living)
 
 
-def successors(kind, accounts, counted, tag=''):
-    """All counted states to which the rules lead; accounts has (code, late) -> set of pairs (number, tagged) by name."""
+def successors(kind, accounts, counted, tag='', awake=()):
+    """All counted states to which the rules lead; accounts has (code, late) -> set of pairs (number, tagged) by name.
+    No living child of a kind in awake is forked into the pool."""
     (place, contents), number, tagged, living = counted
     _, names, places = kind
     word, *parts = places[place]
@@ -37,7 +38,7 @@ def successors(kind, accounts, counted, tag=''):
         if old:
             base = (grown(counted, counted[0], 1, tag_of(old)) if ended(old)
                     else grown(counted, counted[0], living=True))
-        for code, late, brought, with_tag in [(-1, 1, 0, 0)] + [
+        for code, late, brought, with_tag in [(-1, 1, 0, 0)] * (slot != '' or name not in awake) + [
                 (code, late, *pair) for (code, late), pairs in accounts[name].items() if code < 2 for pair in pairs]:
             if slot:
                 behind = (target, put(names, contents, slot, (place, code)))

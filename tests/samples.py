@@ -193,14 +193,16 @@ def sleepy_kind(rng, name, later, slots, many):
     return (name, slots, (*places, ('exit', rng.randrange(2))))
 
 
-def sleepy_system(rng, kinds=4, places=6):
+def sleepy_system(rng, kinds=4, places=6, tail=()):
+    """A system of such kinds; those of tail stand behind them."""
     names = [f's{letter}' for letter in 'abcdefgh'[:rng.randint(2, kinds)]]
+    ends = [kind[0] for kind in tail]
     made = []
     for i, name in enumerate(names):
-        later = names[i + 1:]
+        later = names[i + 1:] + ends
         own = ('a', 'b')[:rng.choice((1, 1, 2)) if later else 0]
         made.append(sleepy_kind(rng, name, later, own, rng.randint(3 if later else 1, places)))
-    return tuple(made)
+    return (*made, *tail)
 
 
 def sleepy_systems(seed, many, **sizes):

@@ -4,10 +4,10 @@ import random
 import unittest
 
 from forkyields.tagchecker import lets_tag_tables
-from forkyields.takers import take_paper
 from tests.closed import first_fault
 from tests.samples import LIB, SYSTEM, WORK, lively_systems, not_usable, odd_values, refusal, spoiled
 from tests.test_tablechecker import all_states, changed, paper
+from tests.twoforms import least_tables
 
 NONE = ((), (), 0)
 ANY = ((), (0,), 1)
@@ -23,15 +23,6 @@ def some(*numbers):
     return (numbers, (), 0)
 
 
-def closed_tables(system, tag):
-    """The least tag tables of a system: a take paper of a take that is not possible, in a kind put ahead that comes
-    nowhere else."""
-    front = ('zfront', (), (('wait', (), 0, 1, ()), ('exit', 0)))
-    word, tables = take_paper((*system, front), 'zfront', 0, tag)
-    assert word == 'tables'
-    return tables[:-1]
-
-
 class TagCheckerTest(unittest.TestCase):
     def agree(self, system, tag, thing):
         fault = first_fault(system, thing, tag)
@@ -43,7 +34,7 @@ class TagCheckerTest(unittest.TestCase):
     def test_own_tables(self):
         for system in [SYSTEM, (SLOT, LIB), (TAKER, LIB), (WAITS, WORK, LIB), (LOOP, LIB)] + lively_systems(460, 40):
             for tag in ('t', 'u', 'x', 'm', 'nosuch'):
-                tables = closed_tables(system, tag)
+                tables = least_tables(system, tag)
                 self.assertEqual(lets_tag_tables(system, tag, tables), sum(map(len, tables)))
                 if sum(map(len, tables)) < 30:
                     self.assertIsNone(self.agree(system, tag, tables))
@@ -52,7 +43,7 @@ class TagCheckerTest(unittest.TestCase):
         lib = (((0, ()), some(0), NONE, NONE, NONE),)
         work = ((0, ()), some(0), NONE, NONE, NONE), ((1, ()), some(1), some(0), some(1), NONE)
         self.assertEqual(lets_tag_tables((WORK, LIB), 'x', (work, lib)), 3)
-        self.assertEqual(closed_tables((WORK, LIB), 'x'), (work, lib))
+        self.assertEqual(least_tables((WORK, LIB), 'x'), (work, lib))
 
     def test_all_there_could_be(self):
         for system in [SYSTEM, (WAITS, WORK, LIB)] + lively_systems(461, 15, places=5):
@@ -61,7 +52,7 @@ class TagCheckerTest(unittest.TestCase):
 
     def test_more_numbers(self):
         """The tables for a tag hold for another one if they tell of more numbers with the tag."""
-        tables = closed_tables((WORK, LIB), 'x')
+        tables = least_tables((WORK, LIB), 'x')
         self.assertEqual(lets_tag_tables((WORK, LIB), 'y', tables), 3)
         more = changed(tables, 0, 1, ((1, ()), some(1), some(0), FROM_1, ((3,), (5,), 1)))
         self.assertEqual(lets_tag_tables((WORK, LIB), 'x', more), 3)
@@ -69,7 +60,7 @@ class TagCheckerTest(unittest.TestCase):
     def test_with_the_tag_to_with_the_tag(self):
         """The first further rule: [33] leads from numbers with the tag to such."""
         kind = ('kind', (), (('fork', 'lib', 't', '', 1), ('go', (2,)), ('exit', 0)))
-        tables = closed_tables((kind, LIB), 't')
+        tables = least_tables((kind, LIB), 't')
         for k in (1, 2):
             fewer = changed(tables, 0, k, (*tables[0][k][:3], NONE, NONE))
             self.assertEqual(refusal(lets_tag_tables, (kind, LIB), 't', fewer), paper('rule', (0, k - 1)))
@@ -90,21 +81,21 @@ class TagCheckerTest(unittest.TestCase):
         """The second further rule: what an account brings with the tag is marked, in the pool and out of a slot."""
         pool = ('pool', (), (('fork', 'work', 'm', '', 1), ('exit', 0)))
         for system, k in (((pool, WORK, LIB), 1), ((WAITS, WORK, LIB), 2), ((WAITS, WORK, LIB), 4)):
-            tables = closed_tables(system, 'x')
+            tables = least_tables(system, 'x')
             self.assertNotEqual(tables[0][k][3:], (NONE, NONE))
             fewer = changed(tables, 0, k, (*tables[0][k][:3], NONE, NONE))
             self.assertEqual(self.agree(system, 'x', fewer), 'rule')
         # An ended content with the tag brings it when its parent ends, by the settled and unsettled numbers.
         held = ('held', ('a',), (('fork', 'lib', 't', 'a', 1), ('exit', 1)))
         system = (('pool', (), (('fork', 'held', 'm', '', 1), ('exit', 0))), held, LIB)
-        tables = closed_tables(system, 't')
+        tables = least_tables(system, 't')
         self.assertEqual(tables[0][1][3], some(2))
         self.assertEqual(self.agree(system, 't', changed(tables, 0, 1, (*tables[0][1][:3], NONE, NONE))), 'rule')
 
     def test_a_child_with_the_tag(self):
         """The third further rule: forked into the pool with code 0 or 1, released, pushed out of the slot."""
         for system, tag, k in (((WORK, LIB), 'x', 1), ((SLOT, LIB), 't', -1), ((SLOT, LIB), 't', -2), ((SLOT, LIB), 't', -3)):
-            tables = closed_tables(system, tag)
+            tables = least_tables(system, tag)
             row = tables[0][k]
             self.assertNotEqual(row[3:], (NONE, NONE))
             k = tables[0].index(row)
@@ -112,7 +103,7 @@ class TagCheckerTest(unittest.TestCase):
 
     def test_each_word(self):
         for system in ((SLOT, LIB), SYSTEM, (WAITS, WORK, LIB)):
-            tables = closed_tables(system, 't')
+            tables = least_tables(system, 't')
             for wrong in odd_values() + [(), tables[:1], tables + ((),), list(tables), (*tables[:-1], None)]:
                 if not isinstance(wrong, tuple) or len(wrong) != len(system) or wrong[-1] is None:
                     self.assertEqual(refusal(lets_tag_tables, system, 't', wrong), paper('shape', -1))
@@ -129,7 +120,7 @@ class TagCheckerTest(unittest.TestCase):
                 self.assertEqual(refusal(lets_tag_tables, system, 't', twice), paper('row', (i, 1)))
 
     def test_several_faults(self):
-        tables = closed_tables(SYSTEM, 'x')
+        tables = least_tables(SYSTEM, 'x')
         open_main = tables[0][:1]
         bad = ((0, ()), some(0), NONE, some(0), NONE)
         self.assertEqual(refusal(lets_tag_tables, SYSTEM, 'x', ((), tables[1], (bad,))), paper('row', (2, 0)))
@@ -142,7 +133,7 @@ class TagCheckerTest(unittest.TestCase):
     def test_values_of_every_kind(self):
         words = set()
         for system, tag in (((WORK, LIB), 'x'), ((LOOP, LIB), 'm')):
-            for wrong in spoiled(closed_tables(system, tag)):
+            for wrong in spoiled(least_tables(system, tag)):
                 words.add(self.agree(system, tag, wrong))
         self.assertEqual(words, {None, 'shape', 'row', 'first', 'rule'})
 
@@ -153,7 +144,7 @@ class TagCheckerTest(unittest.TestCase):
         made = [(SLOT, LIB), (TAKER, LIB), (WAITS, WORK, LIB), (LOOP, LIB), SYSTEM] * 8 + lively_systems(464, 40, places=6)
         for system in made:
             tag = rng.choice(('t', 'u', 'x'))
-            tables = closed_tables(system, tag)
+            tables = least_tables(system, tag)
             if sum(map(len, tables)) > 40:
                 continue
             for _ in range(5):

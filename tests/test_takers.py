@@ -13,8 +13,7 @@ from tests.model import model_behind, random_run
 from tests.ruleplay import ended, played_tables
 from tests.samples import (
     BUSY, KEEPER, LIB, MAIN, SYSTEM, SYSTEMS, WORK, lively_systems, not_usable, odd_values, random_systems, refusal, same)
-
-NONE = ((), (), 0)
+from tests.twoforms import rows_showing
 
 
 def played_comers(system, tables):
@@ -41,27 +40,6 @@ def played_takes(system, tag):
                 if (places[place][2] != -1 and tagged) or any(
                         ended(content) and places[content[0]][2] == tag for content in looked):
                     found.add((name, place))
-    return found
-
-
-def shows(kind, row, place, tag):
-    """Whether a row of tag tables shows a take, by the words of [48]."""
-    (p, contents), settled, unsettled, ws, wu = row
-    if p != place or (settled, unsettled) == (NONE, NONE):
-        return False
-    held = dict(zip(kind[1], contents))
-    looked = [held[told[0]] for told in kind[2][place][1]]
-    if any(ended(content) and kind[2][content[0]][2] == tag for content in looked):
-        return True
-    return kind[2][place][2] != -1 and (ws, wu) != (NONE, NONE)
-
-
-def comers_by(system, tables):
-    found = {system[0][0]}
-    for kind, rows in zip(system, tables):
-        if kind[0] in found:
-            found |= {kind[2][row[0][0]][1] for row in rows
-                      if row[1:3] != (NONE, NONE) and kind[2][row[0][0]][0] == 'fork'}
     return found
 
 
@@ -162,10 +140,7 @@ class TakersTest(unittest.TestCase):
         return word
 
     def shows_none(self, system, name, place, tag, tables):
-        if name in comers_by(system, tables):
-            for kind, rows in zip(system, tables):
-                if kind[0] == name:
-                    self.assertFalse(any(shows(kind, row, place, tag) for row in rows))
+        self.assertEqual(rows_showing(system, tables, name, place, tag), [])
 
     def test_papers(self):
         rng = random.Random(477)
