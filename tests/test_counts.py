@@ -31,25 +31,26 @@ def windows(system, kind):
     return found
 
 
-class CountsTest(unittest.TestCase):
-    def fault(self, system, kind, thing, accounts):
-        """The first fault of any value as a counted run, number by number; None if it is one."""
-        known = [made for made in system if made[0] == kind][0]
-        if type(thing) is not tuple or not thing or not all(
-                type(part) is tuple and len(part) == 3 and state_fits(known, part[0]) and type(part[1]) is int
-                and part[1] >= 0 and type(part[2]) is bool for part in thing):
-            return ('shape', -1)
-        if thing[0] != ((0, ((),) * len(known[1])), 0, False):
-            return ('first', -1)
-        for k in range(1, len(thing)):
-            state, number, living = thing[k - 1]
-            after = {(s, n, alive) for s, n, _, alive in successors(known, accounts, (state, number, 0, living))}
-            if thing[k] not in after:
-                return ('rule', k)
-        return None
+def count_fault(system, kind, thing, accounts):
+    """The first fault of any value as a counted run, number by number; None if it is one."""
+    known = [made for made in system if made[0] == kind][0]
+    if type(thing) is not tuple or not thing or not all(
+            type(part) is tuple and len(part) == 3 and state_fits(known, part[0]) and type(part[1]) is int
+            and part[1] >= 0 and type(part[2]) is bool for part in thing):
+        return ('shape', -1)
+    if thing[0] != ((0, ((),) * len(known[1])), 0, False):
+        return ('first', -1)
+    for k in range(1, len(thing)):
+        state, number, living = thing[k - 1]
+        after = {(s, n, alive) for s, n, _, alive in successors(known, accounts, (state, number, 0, living))}
+        if thing[k] not in after:
+            return ('rule', k)
+    return None
 
+
+class CountsTest(unittest.TestCase):
     def agree(self, system, kind, thing, accounts):
-        fault = self.fault(system, kind, thing, accounts)
+        fault = count_fault(system, kind, thing, accounts)
         self.assertEqual(refusal(lets_count, system, kind, thing), fault and paper(*fault), thing)
         if fault is None:
             self.assertTrue(same(lets_count(system=system, kind=kind, thing=thing), thing[-1]))
