@@ -48,6 +48,23 @@ FUNCTIONS = {
     'tagchecker': ['lets_tag_tables(system, tag, thing)'],
     'takers': ['comes(system, kind)', 'can_take(system, kind, place, tag)', 'foreign_takes(system)', 'is_calm(system)',
                'take_paper(system, kind, place, tag)'],
+    'takechecker': ['lets_take(system, kind, place, tag, thing)'],
+    'outside': ['outside_tags(system)', 'outside_paper(system, tag)'],
+    'outsidechecker': ['lets_outside(system, tag, thing)'],
+    'resting': ['sleeps(system, kind)', 'stuck_states(system, kind)', 'rest_table(system, kind)',
+                'rest_account(system, kind)', 'tags_at_rest(system)',
+                "rest_probe(kind, code, number, *, called='probe')", 'alike_at_rest(system, old, new)'],
+    'restruns': ['rest_run(system, kind, state)', 'resting_run(system, kind, state, number)'],
+    'gaps': ['none_places(system)', 'dead_places(system)'],
+    'heaps': ['most_lying(system, kind)', 'heap_paper(system, kind)'],
+    'heapchecker': ['lets_heap(system, kind, thing)'],
+    'exclusions': ['exclusions_of(system)', 'leaves_calm(system, exclusions)', 'newly_stuck(system, exclusions)',
+                   'least_exclusions(system)', 'greatest_others(system)', 'exclusion_paper(system)'],
+    'exclusionchecker': ['lets_exclusions(system, thing)'],
+    'yardevents': ['is_event(thing)'],
+    'yardlogs': ['is_log(thing)', 'replayed(log)'],
+    'yardtexts': ['event_line(event)', 'log_lines(log)'],
+    'yardreadings': ['read_event(text)', 'read_log(lines)'],
 }
 CLASSES = {
     'numberclasses': {'Numbers': ['told=((), (), 0)', 'told', 'of', 'every', 'none', '__contains__', '__bool__',
@@ -63,6 +80,18 @@ CLASSES = {
                    'Driver': ['system', 'run_now', 'tree_now', 'next_now', 'go', '__iadd__', 'back', 'trial', 'tried']},
     'accountclasses': {'Account': ['parts', 'of', 'parts_now', '__getitem__', 'reach', '__le__', '__ge__', '__eq__',
                                    '__or__', '__bool__', '__str__', '__iter__']},
+    'yards': {'Yard': ["system, *, guard='off'", 'MOST', 'run_now', 'tree_now', 'excluded_now', 'system_now', 'guard_now',
+                       'next_now', 'waiting_now', 'foreign_now', 'happen', 'do_step', 'exclude', 'allow', 'set_guard', 'mark',
+                       '__iadd__', 'barred', 'tried', 'trial', 'undo', 'do_all', 'counts', 'lying', 'state_now', 'taken_since',
+                       'forked_since', 'tally', 'table', 'log', '__getitem__', '__contains__', '__len__', '__eq__']},
+    'desks': {'Desk': ['system', 'say', 'counts']},
+}
+METHODS = {
+    'yards': {'happen': 'event', 'do_step': 'process, word, number', 'exclude': 'kind, place, slot', 'allow': 'kind, place, slot',
+              'set_guard': 'guard', 'mark': 'name', 'barred': 'event', 'tried': '*events', 'trial': '', 'undo': '',
+              'do_all': '*events, keep=False', 'counts': '', 'lying': 'process', 'state_now': 'process', 'taken_since': 'name',
+              'forked_since': 'name', 'tally': '', 'table': '', 'log': ''},
+    'desks': {'say': 'row', 'counts': ''},
 }
 
 
@@ -88,6 +117,14 @@ class InterfaceTest(unittest.TestCase):
                 self.assertEqual(str(inspect.signature(made)), f'({parameters})')
                 for method in own:
                     self.assertIn(method, vars(made), name)
+
+    def test_methods(self):
+        for module, listed in METHODS.items():
+            name = list(CLASSES[module])[0]
+            made = getattr(importlib.import_module(f'forkyields.{module}'), name)
+            for method, parameters in listed.items():
+                right = f'(self, {parameters})' if parameters else '(self)'
+                self.assertEqual(str(inspect.signature(getattr(made, method))), right)
 
 
 if __name__ == '__main__':

@@ -123,7 +123,7 @@ class YardTest(unittest.TestCase):
         for system in DAYS * 2 + lively_systems(621, 25):
             guard = rng.choice(('on', 'off', 'off'))
             yard, day = Yard(system, guard=guard), Day(system, guard)
-            for _ in range(55):
+            for _ in range(75):
                 event = rng.choice(likely_events(rng, day))
                 reason = day.reason(event)
                 reasons[reason] = reasons.get(reason, 0) + 1
