@@ -47,7 +47,8 @@ class FallSearch:
                 self.come_back(base, mask, grown)
             if part in self.returns:
                 for k in bits_in(mask & ~self.passed[part]):
-                    self.comers.setdefault(self.places[k], {})[part] = True
+                    comers = self.comers.setdefault(self.places[k], {})
+                    comers[part] = True
                     self.come_back(part, self.found.get(self.places[k], 0), grown)
                 self.passed[part] = mask
         return grown
@@ -72,7 +73,8 @@ def groups_before(steps, group):
     found = {}
     for node, afters in enumerate(steps):
         for after in afters:
-            found.setdefault(group[after], {})[group[node]] = True
+            others = found.setdefault(group[after], {})
+            others[group[node]] = True
     return found
 
 
