@@ -1,20 +1,22 @@
 """To which nodes of a ladder one comes down from a step up: sets of nodes are kept as the bits of a number."""
 
+PART = 512
+
 
 def falls_of(ladder, group, level):
-    """For each group to which a step up leads, from a number above 0 on: the list of the nodes to which one comes down
-    from there, one below, at first. Nodes that lead to each other above 0, by the steps of level, make a group."""
+    """For each group to which a step up leads, from a number above 0 on: the nodes to which one comes down from there,
+    one below, at first, as the index of a list of nodes; and these lists. Nodes that lead to each other above 0, by the
+    steps of level, make a group."""
     search = FallSearch(ladder, group, level)
     pending = {part: True for part in search.found}
     while pending:
         # Each round looks at the groups alone for which the one before has found something.
         pending = search.next_round(list(pending))
-    lists = {}
+    kept = {}
     for base in search.returns:
-        mask = search.found.get(base, 0)
-        if mask not in lists:
-            lists[mask] = [search.landings[k] for k in bits_in(mask)]
-    return {base: lists[search.found.get(base, 0)] for base in search.returns}
+        kept.setdefault(search.found.get(base, 0), len(kept))
+    lists = [[search.landings[k] for k in bits_in(mask)] for mask in kept]
+    return ({base: kept[search.found.get(base, 0)] for base in search.returns}, lists)
 
 
 class FallSearch:
@@ -76,6 +78,19 @@ def groups_before(steps, group):
             others = found.setdefault(group[after], {})
             others[group[node]] = True
     return found
+
+
+def mask_of(places):
+    """The number that has bits at these places."""
+    parts = {}
+    for place in places:
+        k = place // PART
+        parts[k] = parts.get(k, 0) | 1 << (place - k * PART)
+    # A long number is changed as a whole for each bit: short ones come first.
+    whole = 0
+    for k in parts:
+        whole = whole | parts[k] << (k * PART)
+    return whole
 
 
 def bits_in(mask):

@@ -1,8 +1,7 @@
-"""Nodes with a number that goes up and down by one: which nodes are reached with which numbers, and on which way."""
+"""Nodes with a number that goes up and down by one, and ways through them."""
 
-from forkyields.falls import falls_of
-from forkyields.progressions import gathered, holds
-from forkyields.searches import groups_of, spread_over, turned_round
+from forkyields.progressions import holds
+from forkyields.searches import spread_over, turned_round
 
 
 class Ladder:
@@ -10,6 +9,7 @@ class Ladder:
 
     Each of the lists of steps has, for each node, the nodes to which a step leads: level keeps the number, ground
     keeps it if it is 0, above if it is not, up adds 1 to it, and down takes 1 from a number that is not 0.
+    For each node to which rises lead, rises has the nodes in the midst of them, from the last one back.
     """
 
     def __init__(self):
@@ -20,6 +20,7 @@ class Ladder:
         self.above = []
         self.up = []
         self.down = []
+        self.rises = {}
 
     def node_for(self, name):
         """The node of this name, a new one if there is none."""
@@ -41,13 +42,15 @@ class Ladder:
 
     def climb(self, many, target):
         """The node from which the number grows by so many, with no other way than to the target."""
-        below = target
-        for rest in range(1, many + 1):
-            node = self.node_for(("more", rest, target))
-            if not self.up[node]:
-                self.up[node].append(below)
-            below = node
-        return below
+        if many == 0:
+            return target
+        rises = self.rises.setdefault(target, [])
+        begin = len(rises)
+        for rest in range(begin, many):
+            node = self.node_for(("more", rest + 1, target))
+            self.up[node].append(rises[-1] if rises else target)
+            rises.append(node)
+        return rises[many - 1]
 
     def turn(self, told, target):
         """The node from which the number grows by any member of told that repeats, with no way but to the target."""
@@ -72,6 +75,10 @@ class Ladder:
             self.above[still].append(target)
         self.down[node].append(still)
 
+    def steps_above(self):
+        """For each node, the nodes to which steps lead that keep a number above 0."""
+        return [level + above for level, above in zip(self.level, self.above)]
+
     def steps_from(self, node, number):
         """The steps from a node with a number, as pairs of a node and a number."""
         same = self.level[node] + (self.above[node] if number else self.ground[node])
@@ -81,61 +88,10 @@ class Ladder:
 
 def leading_to(ladder, goals):
     """For each node, whether some steps lead from it to one of the goals, whatever the numbers."""
-    kept = [level + ground for level, ground in zip(above_steps(ladder), ladder.ground)]
+    kept = [level + ground for level, ground in zip(ladder.steps_above(), ladder.ground)]
     steps = [same + up + down for same, up, down in zip(kept, ladder.up, ladder.down)]
     found = {node: True for node in spread_over(turned_round(steps), goals)}
     return [node in found for node in range(len(ladder.nodes))]
-
-
-def above_steps(ladder):
-    """For each node, the nodes to which steps lead that keep a number above 0."""
-    return [level + above for level, above in zip(ladder.level, ladder.above)]
-
-
-def level_steps(ladder, more, falls, group):
-    """For each node, the nodes to which one comes with the same number, more of them by the further steps.
-
-    Behind the nodes of the ladder there is one for each group with falls, to spare the same list for many nodes.
-    """
-    places = {base: len(ladder.nodes) + k for k, base in enumerate(falls)}
-    steps = []
-    for node, ups in enumerate(ladder.up):
-        back = [places[group[after]] for after in ups]
-        steps.append(ladder.level[node] + more[node] + back)
-    return steps + [falls[base] for base in falls]
-
-
-def levels_of(ladder):
-    """For each number the ascending tuple of the nodes that have it, until all repeats; and where that begins."""
-    above = above_steps(ladder)
-    group = groups_of(above)
-    falls = falls_of(ladder, group, above)
-    many = len(ladder.nodes)
-    nodes = spread_over(level_steps(ladder, ladder.ground, falls, group), [0])
-    steps = level_steps(ladder, ladder.above, falls, group)
-    met = {}
-    levels = []
-    while nodes not in met:
-        met[nodes] = len(levels)
-        levels.append([node for node in nodes if node < many])
-        # What is possible above 0 is the same at each number, so the nodes with one number tell those with the next.
-        nodes = spread_over(steps, [after for node in levels[-1] for after in ladder.up[node]])
-    return (levels, met[nodes])
-
-
-def numbers_by_node(ladder):
-    """For each node, the number set of the numbers with which it is reached."""
-    levels, begin = levels_of(ladder)
-    period = len(levels) - begin
-    early = [[] for node in ladder.nodes]
-    starts = [[] for node in ladder.nodes]
-    for number, nodes in enumerate(levels):
-        for node in nodes:
-            if number < begin:
-                early[node].append(number)
-            else:
-                starts[node].append(number)
-    return [gathered(early[node], starts[node], period) for node in range(len(ladder.nodes))]
 
 
 def way_to(ladder, goals):

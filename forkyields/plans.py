@@ -1,7 +1,8 @@
 """What all runs of the kinds of a system can bring, and ways to each number."""
 
 from forkyields.accountparts import account_from, gains_from, tagged_account_from
-from forkyields.ladders import Ladder, numbers_by_node, way_to
+from forkyields.ladders import Ladder, way_to
+from forkyields.levels import numbers_by_node
 from forkyields.progressions import holds
 from forkyields.rules import NONE, moves_of
 from forkyields.stateparts import any_alive, any_tagged, beginning, ended_many
@@ -131,7 +132,7 @@ def add_move(ladder, node, marked, move):
 def rows_from(ladder):
     """The rows (state, settled, unsettled, and both with the tag) of all states that are reached, ascending."""
     numbers = numbers_by_node(ladder)
-    told = {name: numbers[node] for name, node in ladder.known.items() if is_whole(name) and numbers[node] != NONE}
+    told = {name: numbers[node] for name, node in ladder.known.items() if is_whole(name) and node in numbers}
     states = sorted(set([name[0] for name in told]))
     places = ((False, False), (True, False), (False, True), (True, True))
     return tuple([(state, *[told.get((state, *place), NONE) for place in places]) for state in states])

@@ -4,13 +4,20 @@ import random
 import unittest
 
 from forkyields.cycles import rising_cycle
-from forkyields.ladders import Ladder, numbers_by_node, way_to
+from forkyields.ladders import Ladder, way_to
+from forkyields.levels import numbers_by_node
+from forkyields.numbersets import joined_sets, moved_set
 from tests.closed import members
 
 STEPS = ('level', 'ground', 'above', 'up', 'down')
 
 
+NONE = ((), (), 0)
+TOLD = [((0, 3), (), 0), ((), (1,), 2), ((0,), (2, 3), 5), ((7,), (), 0), ((), (0,), 3), ((), (4,), 1), ((1,), (3,), 4), ((2,), (), 0)]
+
+
 def random_ladder(rng, most=7):
+    """Some nodes, steps between them, rises by any number of a set, and falls."""
     ladder = Ladder()
     many = rng.randint(1, most)
     for node in range(many):
@@ -18,6 +25,10 @@ def random_ladder(rng, most=7):
     for name in STEPS:
         for _ in range(rng.randint(0, many + 1)):
             getattr(ladder, name)[rng.randrange(many)].append(rng.randrange(many))
+    for _ in range(rng.randint(0, 3)):
+        ladder.rise(rng.randrange(many), rng.choice(TOLD), rng.randrange(many))
+    for _ in range(rng.randint(0, 2)):
+        ladder.fall(rng.randrange(many), rng.randrange(many), rng.random() < 0.5)
     return ladder
 
 
@@ -43,7 +54,9 @@ class LaddersTest(unittest.TestCase):
         for _ in range(1500):
             ladder = random_ladder(rng)
             found = reached(ladder, 70)
-            for node, told in enumerate(numbers_by_node(ladder)):
+            numbers = numbers_by_node(ladder)
+            for node in [node for node, name in enumerate(ladder.nodes) if name[0] == 'node']:
+                told = numbers.get(node, NONE)
                 right = {number for at, number in found if at == node and number <= 10}
                 self.assertEqual({number for number in members(told) if number <= 10}, right)
                 met[int(told[2] > 0)] += 1
@@ -78,6 +91,33 @@ class LaddersTest(unittest.TestCase):
         found = reached(ladder, 70)
         for node in (3, 4):
             self.assertEqual({n for n in members(told[node]) if n <= 10}, {n for at, n in found if at == node and n <= 10})
+
+
+    def test_rises_by_many(self):
+        """Each number of a set, and no other one, whatever the period; several rises to one node, and one behind another."""
+        for told in (((0, 3), (), 0), ((), (1,), 60), ((600,), (), 0), ((5,), (100, 131), 60), ((), (0,), 59), ((), tuple(range(1, 60, 7)), 60)):
+            ladder = Ladder()
+            for node in range(3):
+                ladder.node_for(('node', node))
+            ladder.rise(0, told, 1)
+            ladder.rise(1, ((2,), (), 0), 2)
+            ladder.rise(0, ((1,), (), 0), 2)
+            numbers = numbers_by_node(ladder)
+            self.assertEqual([numbers[0], joined_sets(numbers[1])], [((0,), (), 0), joined_sets(told)])
+            self.assertEqual(numbers[2], joined_sets(moved_set(told, 2), ((1,), (), 0)))
+
+    def test_two_periods(self):
+        """A rise by each of two sets one behind the other, and down again by threes."""
+        ladder = Ladder()
+        for node in range(6):
+            ladder.node_for(('node', node))
+        ladder.rise(0, ((), (0,), 13), 1)
+        ladder.rise(0, ((), (5,), 11), 1)
+        ladder.down[1] = [2]
+        ladder.down[2] = [3]
+        ladder.down[3] = [1]
+        numbers = numbers_by_node(ladder)
+        self.assertEqual([numbers[node] for node in (1, 2, 3)], [((), (0,), 1)] * 3)
 
 
 class CyclesTest(unittest.TestCase):
