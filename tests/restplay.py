@@ -55,9 +55,9 @@ def played_rest(system, most, tag=''):
     return stuck, tables, accounts
 
 
-def tagged_at_rest(system, tag):
-    """The kinds that are stuck somewhere beside an ended child with the tag."""
-    stuck = played_rest(system, 6, tag)[0]
+def tagged_at_rest(system, tag, most=12):
+    """The kinds that are stuck somewhere beside an ended child with the tag, reached without going beyond the bound."""
+    stuck = played_rest(system, most, tag)[0]
     found = set()
     for kind in system:
         for (_, contents), _, tagged, _ in stuck[kind[0]]:
