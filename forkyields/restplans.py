@@ -35,8 +35,7 @@ class RestPlan(Plan):
         instruction = kind[2][state[0]]
         if instruction[0] == "fork" and instruction[3] == "" and instruction[1] not in self.stuck:
             return [move for move in moves if move[5] != ("step", "fork")]
-        old = moved_content(kind, state)
-        return [] if is_alive(old) and not self.may_rest(kind, old) else moves
+        return moves if self.may_rest(kind, moved_content(kind, state)) else []
 
     def ending_rows(self, kind):
         """The rows of a kind in which all living children in slots are of kinds that sleep."""

@@ -284,6 +284,18 @@ class HeapsTest(unittest.TestCase):
         counted = (((0, ((),)), 0, False), ((1, ((),)), 0, False), ((0, ((),)), 1, False))
         self.assertIsNone(self.agree((no_pool, LIB), 'kind', ('again', counted, 0)))
 
+    def test_a_wait_with_a_number(self):
+        """At a number above 0 the wait is no such one; a poll that is done again begins above 0."""
+        kind = ('kind', (), (('fork', 'lib', 't', '', 1), ('wait', (), 2, 5, ()), ('fork', 'lib', 't', '', 3), ('fork', 'lib', 't', '', 1),
+                             ('exit', 0), ('exit', 0)))
+        counted = (((0, ()), 0, False), ((1, ()), 1, False), ((2, ()), 0, False), ((3, ()), 1, False), ((1, ()), 2, False))
+        self.assertIsNone(self.agree((kind, LIB), 'kind', ('again', counted, 1)))
+        polls = ('polls', (), (('poll', (), 3, 1, 2, ()), ('fork', 'lib', 't', '', 0), ('fork', 'lib', 't', '', 0), ('exit', 0)))
+        thing = heap_paper((polls, LIB), 'polls')
+        self.assertIsNone(self.agree((polls, LIB), 'polls', thing))
+        counted = (((0, ()), 0, False), ((1, ()), 0, False), ((0, ()), 1, False), ((2, ()), 1, False), ((0, ()), 2, False))
+        self.assertEqual([self.agree((polls, LIB), 'polls', ('again', counted, k)) for k in (0, 2)], ['again', None])
+
     def test_changed_account(self):
         for system in (OVER, SLOT, KILL):
             kind = system[0][0]

@@ -185,6 +185,11 @@ class TagsAtRestTest(unittest.TestCase):
         self.assertEqual(tags_at_rest((waits('k', row, -1, 'a', 'z'), Z, LIB)), (('z', 'm'),))
         self.assertEqual(tags_at_rest((waits('k', (), 2), LIB)), (('k', 'm'),))
         self.assertEqual(tags_at_rest(SYSTEM), ())
+        # A child sleeps in the pool from the beginning: with a tag there are numbers beside a living one alone.
+        beside = ('both', ('a',), (('fork', 'z', 'p', '', 1), ('fork', 'lib', 'q', '', 2), ('fork', 'z', 'r', 'a', 3),
+                                   ('wait', (('a', 4, 4, 4),), -1, 4, ()), ('exit', 0)))
+        self.assertEqual(rest_table((beside, Z, LIB), 'both')[-1], ((3, ((2, -1),)), NONE, ((1,), (), 0)))
+        self.assertEqual(tags_at_rest((beside, Z, LIB)), (('both', 'q'), ('z', 'm')))
         # Kinds that do not come have own runs, too.
         self.assertEqual(tags_at_rest((('front', (), (('exit', 0),)), *NIGHT)), (('z', 'm'),))
 
